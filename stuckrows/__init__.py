@@ -1,0 +1,1 @@
+"""Which transactions can wait for one another for ever, for any number of them."""

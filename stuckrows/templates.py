@@ -1,0 +1,195 @@
+"""Systems of templates: their form, and what an instance holds and asks for at each step."""
+
+from stuckrows.errors import InvalidNumber, InvalidSystem, InvalidTemplate, Mismatch
+from stuckrows.modes import ModeTable, allow_both_ways, require_modes
+from stuckrows.words import are_different_names, is_index, is_integer, is_name, is_tuple
+
+MOST_FIXED = 4
+MOST_TEMPLATES = 6
+MOST_PARAMS = 4
+MOST_STEPS = 8
+
+
+def all_less(orders):
+    """A dict of True with all pairs of which the first is less, told directly or by way of others."""
+    less = {pair: True for pair in orders}
+    names = sorted({name for pair in orders for name in pair})
+    for middle in names:
+        for low in names:
+            for high in names:
+                if (low, middle) in less and (middle, high) in less:
+                    less[low, high] = True
+    return less
+
+
+def are_params(params, fixed):
+    """Whether this can be the params of a template."""
+    if not is_tuple(params, 0, MOST_PARAMS):
+        return False
+    for pair in params:
+        if not is_tuple(pair, 2, 2) or not is_name(pair[0]) or not is_name(pair[1]):
+            return False
+    names = [param for param, _ in params]
+    return len(set(names)) == len(names) and not any(name in fixed for name in names)
+
+
+def is_order(pair, names, tables):
+    """Whether a value is a pair of params of the same table."""
+    if not is_tuple(pair, 2, 2) or pair[0] not in names or pair[1] not in names:
+        return False
+    return tables[pair[0]] == tables[pair[1]]
+
+
+def are_orders(orders, params):
+    """Whether this can be the orders of a template with these params."""
+    tables = dict(params)
+    # A list, since a value that is looked for in a dict would have to be hashable.
+    names = list(tables)
+    if not isinstance(orders, tuple) or not all(is_order(pair, names, tables) for pair in orders):
+        return False
+    less = all_less(orders)
+    return not any((name, name) in less for name in names)
+
+
+def is_template_form(template, fixed, taken):
+    """Whether a value is a template, as far as can be told without looking at its steps."""
+    if not is_tuple(template, 4, 4):
+        return False
+    name, params, orders, steps = template
+    if not is_name(name) or name in taken:
+        return False
+    return are_params(params, fixed) and are_orders(orders, params) and is_tuple(steps, 1, MOST_STEPS)
+
+
+def is_lock(step, items, modes):
+    """Whether a value has the form of a lock step."""
+    return is_tuple(step, 3, 3) and step[0] == "lock" and step[1] in items and step[2] in modes
+
+
+def is_free(step, items):
+    """Whether a value has the form of a free step."""
+    return is_tuple(step, 2, 2) and step[0] == "free" and step[1] in items
+
+
+def first_wrong_step(template, fixed, modes):
+    """The place of the first step that cannot stand there, None if there is none."""
+    items = [param for param, _ in template[1]] + list(fixed)
+    # For each item that was locked, whether it still is.
+    held = {}
+    for place, step in enumerate(template[3]):
+        if is_lock(step, items, modes) and held.get(step[1], True):
+            held[step[1]] = True
+        elif is_free(step, items) and held.get(step[1], False):
+            held[step[1]] = False
+        else:
+            return place
+    return None
+
+
+def check_system(system):
+    """None if the value is a system; otherwise raises the error that tells why it is not."""
+    if not is_tuple(system, 3, 3):
+        raise InvalidSystem("form")
+    modes, fixed, templates = system
+    require_modes(modes)
+    if not are_different_names(fixed, 0, MOST_FIXED):
+        raise InvalidSystem("fixed")
+    if not is_tuple(templates, 1, MOST_TEMPLATES):
+        raise InvalidSystem("templates")
+    taken = []
+    for index, template in enumerate(templates):
+        if not is_template_form(template, fixed, taken):
+            raise InvalidTemplate(index, -1)
+        place = first_wrong_step(template, fixed, modes[0])
+        if place is not None:
+            raise InvalidTemplate(index, place)
+        taken.append(template[0])
+
+
+def frees_fixed(system):
+    """Whether a template of a system frees a fixed item."""
+    _, fixed, templates = system
+    return any(step[0] == "free" and step[1] in fixed for template in templates for step in template[3])
+
+
+def check_ring_system(system):
+    """Raises the errors of a system, and Mismatch for one that rings do not speak of."""
+    check_system(system)
+    if not allow_both_ways(system[0]) or frees_fixed(system):
+        raise Mismatch("system")
+
+
+def held_before(table, steps, step):
+    """A dict from the items that are held before a step to their modes."""
+    held = {}
+    for row in steps[:step]:
+        if row[0] == "lock":
+            held[row[1]] = table.join_of(held.get(row[1]), row[2])
+        else:
+            del held[row[1]]
+    return held
+
+
+def asked_by(table, steps, step):
+    """The item and the ask of a step, None if it asks for nothing more than is held."""
+    row = steps[step]
+    if row[0] == "free":
+        return None
+    held = held_before(table, steps, step).get(row[1])
+    ask = table.join_of(held, row[2])
+    return None if ask == held else (row[1], ask)
+
+
+def are_keys(template, keys):
+    """Whether a value is the keys of an instance of a template."""
+    params = template[1]
+    if not is_tuple(keys, len(params), len(params)) or not all(is_integer(key) for key in keys):
+        return False
+    rows = [(table, key) for (_, table), key in zip(params, keys)]
+    if len(set(rows)) != len(rows):
+        return False
+    key_of = {param: key for (param, _), key in zip(params, keys)}
+    return all(key_of[low] < key_of[high] for low, high in template[2])
+
+
+def check_place(system, template, step, beyond):
+    """Raises the errors of a system and of a step; `beyond` is 1 where the end counts as a step."""
+    check_template(system, template)
+    if not is_index(step, len(system[2][template][3]) + beyond):
+        raise InvalidNumber("step")
+
+
+def check_template(system, template):
+    """Raises the errors of a system and of the index of a template."""
+    check_system(system)
+    if not is_index(template, len(system[2])):
+        raise InvalidNumber("template")
+
+
+def positions(system):
+    """The ascending list of all (template, step) at which more is asked for than is held."""
+    check_system(system)
+    table = ModeTable(system[0])
+    found = []
+    for index, template in enumerate(system[2]):
+        steps = template[3]
+        found.extend([(index, step) for step in range(len(steps)) if asked_by(table, steps, step) is not None])
+    return found
+
+
+def held_at(system, template, step):
+    """A dict from the items that the template holds before the step to their modes."""
+    check_place(system, template, step, 1)
+    return held_before(ModeTable(system[0]), system[2][template][3], step)
+
+
+def asked_at(system, template, step):
+    """The item and the ask of the step, None if it asks for nothing more than is held."""
+    check_place(system, template, step, 0)
+    return asked_by(ModeTable(system[0]), system[2][template][3], step)
+
+
+def lesser(system, template):
+    """The ascending list of all pairs of params of the template of which the first is less."""
+    check_template(system, template)
+    return sorted(all_less(system[2][template][2]))

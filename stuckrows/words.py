@@ -1,0 +1,35 @@
+"""Small questions about plain values that several modules ask."""
+
+LETTERS = "abcdefghijklmnopqrstuvwxyz"
+LONGEST_NAME = 12
+
+
+def is_name(value):
+    """Whether a value is a string of 1 to 12 letters from a to z."""
+    if not isinstance(value, str) or not 1 <= len(value) <= LONGEST_NAME:
+        return False
+    return all(letter in LETTERS for letter in value)
+
+
+def is_integer(value):
+    """Whether a value is an integer, where bools are none."""
+    return isinstance(value, int) and not isinstance(value, bool)
+
+
+def is_index(value, size):
+    """Whether a value is a place in a list of this size."""
+    return is_integer(value) and 0 <= value < size
+
+
+def is_tuple(value, least, most):
+    """Whether a value is a tuple with so many entries."""
+    return isinstance(value, tuple) and least <= len(value) <= most
+
+
+def are_different_names(value, least, most):
+    """Whether a value is a tuple of so many names, none of them twice."""
+    if not is_tuple(value, least, most):
+        return False
+    if not all(is_name(entry) for entry in value):
+        return False
+    return len(set(value)) == len(value)
