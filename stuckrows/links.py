@@ -100,13 +100,3 @@ def askers_by_kind(spots):
         kind = spot.kind_of(spot.asked)
         askers[kind] = askers.get(kind, 0) | 1 << index
     return askers
-
-
-def bits(nodes):
-    """The ascending list of the nodes in a set."""
-    found = []
-    while nodes:
-        lowest = nodes & -nodes
-        found.append(lowest.bit_length() - 1)
-        nodes ^= lowest
-    return found

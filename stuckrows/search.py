@@ -12,7 +12,7 @@ same; or it is about one single item all the way.
 Each node stands twice in a walk's graph: node n is tied, node n + size is loose.
 """
 
-from stuckrows.links import bits
+from stuckrows.bitsets import bits
 from stuckrows.spots import TIES
 
 # For each first tie the ties that leave a walk tied.

@@ -33,3 +33,10 @@ def are_different_names(value, least, most):
     if not all(is_name(entry) for entry in value):
         return False
     return len(set(value)) == len(value)
+
+
+def is_item(value):
+    """Whether a value is a fixed item or a row: a name, or a tuple of a name and a key."""
+    if is_name(value):
+        return True
+    return is_tuple(value, 2, 2) and is_name(value[0]) and is_integer(value[1])

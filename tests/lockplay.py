@@ -1,82 +1,144 @@
 """The lock table and the runs of instances, as stages 2 and 4 of the document tell them, without the package."""
 
+from copy import copy
+from itertools import combinations, permutations
+
 from brute import Plain
 
 
 class PlainTable:
-    """Who holds what, and who waits for what."""
+    """Who holds what, in the order of locking, and who waits for what, in the order of asking."""
 
-    def __init__(self, plain):
-        self.plain = plain
-        self.held = {}
-        self.conversions = {}
-        self.queue = {}
-        self.waiting = {}
+    def __init__(self, modes):
+        _, self.allowed, joins = modes
+        self.joins = {frozenset(row[:2]): row[2] for row in joins}
+        self.holds = []
+        self.waiting = []
 
-    def allowed(self, owner, item, ask):
-        others = [mode for other, mode in self.held.get(item, {}).items() if other != owner]
-        return all((mode, ask) in self.plain.allowed for mode in others)
+    def mode(self, owner, item):
+        found = [mode for one, other, mode in self.holds if (one, other) == (owner, item)]
+        return found[0] if found else None
+
+    def waits(self, owner):
+        return any(one == owner for one, _, _ in self.waiting)
+
+    def allows(self, owner, item, ask):
+        return all((mode, ask) in self.allowed for one, at, mode in self.holds if at == item and one != owner)
+
+    def at(self, item):
+        """The conversions and the queue of an item, as lists of (owner, item, ask)."""
+        here = [row for row in self.waiting if row[1] == item]
+        conversions = [row for row in here if self.mode(row[0], item) is not None]
+        return conversions, [row for row in here if row not in conversions]
+
+    def give(self, owner, item, mode):
+        if self.mode(owner, item) is None:
+            self.holds.append((owner, item, mode))
+        else:
+            self.holds = [row if row[:2] != (owner, item) else (owner, item, mode) for row in self.holds]
 
     def ask(self, owner, item, mode):
-        held = self.held.setdefault(item, {}).get(owner)
-        ask = self.plain.join(held, mode)
+        held = self.mode(owner, item)
+        ask = mode if held in (None, mode) else self.joins[frozenset((held, mode))]
         if ask == held:
             return True
-        conversions = self.conversions.setdefault(item, [])
-        queue = self.queue.setdefault(item, [])
-        if held is not None:
-            if self.allowed(owner, item, ask):
-                self.held[item][owner] = ask
-                return True
-            conversions.append(owner)
-        else:
-            if self.allowed(owner, item, ask) and not conversions and not queue:
-                self.held[item][owner] = ask
-                return True
-            queue.append(owner)
-        self.waiting[owner] = (item, ask)
+        first = held is not None or self.at(item) == ([], [])
+        if first and self.allows(owner, item, ask):
+            self.give(owner, item, ask)
+            return True
+        self.waiting.append((owner, item, ask))
         return False
 
-    def grant(self, owner, item):
-        self.held[item][owner] = self.waiting.pop(owner)[1]
-        return owner
+    def look(self, item):
+        """Grants what can be granted at an item where something was freed."""
+        granted = []
+        for row in self.at(item)[0]:
+            if self.allows(*row):
+                self.waiting.remove(row)
+                self.give(*row)
+                granted.append(row[:2])
+        conversions, queue = self.at(item)
+        if not conversions:
+            for row in queue:
+                if not self.allows(*row):
+                    break
+                self.waiting.remove(row)
+                self.give(*row)
+                granted.append(row[:2])
+        return granted
 
     def free(self, owner, item):
-        del self.held[item][owner]
-        granted = []
-        conversions, queue = self.conversions.get(item, []), self.queue.get(item, [])
-        for other in list(conversions):
-            if self.allowed(other, item, self.waiting[other][1]):
-                conversions.remove(other)
-                granted.append(self.grant(other, item))
-        while not conversions and queue and self.allowed(queue[0], item, self.waiting[queue[0]][1]):
-            granted.append(self.grant(queue.pop(0), item))
-        return granted
+        self.holds = [row for row in self.holds if row[:2] != (owner, item)]
+        return self.look(item)
 
     def end(self, owner):
         granted = []
-        for item in list(self.held):
-            if owner in self.held[item]:
-                granted.extend(self.free(owner, item))
+        for row in [row for row in self.waiting if row[0] == owner]:
+            self.waiting.remove(row)
+            granted += self.look(row[1])
+        for _, item, _ in [row for row in self.holds if row[0] == owner]:
+            granted += self.free(owner, item)
         return granted
 
     def waits_for(self, owner):
-        if owner not in self.waiting:
-            return set()
-        item, ask = self.waiting[owner]
-        found = {other for other, mode in self.held[item].items() if (mode, ask) not in self.plain.allowed}
-        if owner in self.queue[item]:
-            found.update(self.conversions[item])
-            found.update(self.queue[item][:self.queue[item].index(owner)])
-        return found - {owner}
+        for one, item, ask in self.waiting:
+            if one == owner:
+                found = {other for other, at, mode in self.holds if at == item and (mode, ask) not in self.allowed}
+                if self.mode(owner, item) is None:
+                    conversions, queue = self.at(item)
+                    found |= {row[0] for row in conversions}
+                    found |= {row[0] for row in queue[:queue.index((one, item, ask))]}
+                return found - {owner}
+        return set()
 
     def stuck(self):
-        found = set(self.waiting)
+        found = {owner for owner, _, _ in self.waiting}
         while True:
             left = {owner for owner in found if self.waits_for(owner) & found}
             if left == found:
                 return found
             found = left
+
+    def ring(self):
+        """The shortest, then least row of owners that wait for one another; all rows are tried."""
+        stuck = sorted(self.stuck())
+        for count in range(2, len(stuck) + 1):
+            for row in permutations(stuck, count):
+                if row[0] == min(row) and all(b in self.waits_for(a) for a, b in zip(row, row[1:] + row[:1])):
+                    return list(row)
+        return None
+
+    def copied(self):
+        other = copy(self)
+        other.holds, other.waiting = list(self.holds), list(self.waiting)
+        return other
+
+    def without(self, owners):
+        """A copy of this table in which these owners have been ended, in this order."""
+        other = self.copied()
+        for owner in owners:
+            other.end(owner)
+        return other
+
+    def helpful(self, owners):
+        """All sets of some owners, as ascending tuples, whose end leaves nobody stuck, in whatever order."""
+        found = []
+        for count in range(len(owners) + 1):
+            for some in combinations(sorted(owners), count):
+                helps = {not self.without(row).stuck() for row in permutations(some)}
+                assert len(helps) == 1, "the order must not matter"
+                if helps == {True}:
+                    found.append(some)
+        return found
+
+    def victims(self, prices):
+        """The cheapest, shortest, least list of owners of those with a price whose end leaves nobody stuck."""
+        found = [(sum(prices[owner] for owner in some), len(some), list(some)) for some in self.helpful(prices)]
+        return min(found)[2]
+
+    def cheapest(self, prices):
+        """The least sum of prices of such owners."""
+        return min(sum(prices[owner] for owner in some) for some in self.helpful(prices))
 
 
 class PlainRun:
@@ -84,17 +146,26 @@ class PlainRun:
 
     def __init__(self, system, instances):
         self.plain = Plain(system)
-        self.table = PlainTable(self.plain)
+        self.table = PlainTable(system[0])
         self.instances = instances
         self.done = [0] * len(instances)
+
+    def after(self, index):
+        """A copy of this run in which an instance has done one more turn."""
+        other = copy(self)
+        other.table, other.done = self.table.copied(), list(self.done)
+        other.turn(index)
+        return other
 
     def steps(self, index):
         return self.plain.templates[self.instances[index][0]][3]
 
+    def ended(self, index):
+        return self.done[index] == len(self.steps(index)) + 1
+
     def with_turn(self):
         return [
-            index for index in range(len(self.done))
-            if index not in self.table.waiting and self.done[index] <= len(self.steps(index))
+            index for index in range(len(self.done)) if not self.table.waits(index) and not self.ended(index)
         ]
 
     def turn(self, index):
@@ -111,16 +182,13 @@ class PlainRun:
             elif not self.table.ask(index, item, step[2]):
                 return
         self.done[index] += 1
-        for other in granted:
+        for other, _ in granted:
             self.done[other] += 1
 
     def state(self):
-        table = self.table
-        rows = [
-            (str(item), tuple(table.conversions.get(item, [])), tuple(table.queue.get(item, [])))
-            for item in table.held
-        ]
-        return (tuple(self.done), tuple(sorted(rows)))
+        items = {row[1] for row in self.table.waiting}
+        rows = {item: tuple([row[0] for row in part] for part in self.table.at(item)) for item in items}
+        return (tuple(self.done), str(sorted(rows.items(), key=str)))
 
 
 def behind(system, instances, schedule):
@@ -133,14 +201,31 @@ def behind(system, instances, schedule):
 
 def can_get_stuck(system, instances):
     """Whether behind some schedule some of these instances are stuck: all schedules are tried."""
+    return any(run.table.stuck() for run in all_states(system, instances))
+
+
+def all_states(system, instances):
+    """A run for each state to which schedules lead, one after another."""
     seen = set()
-    todo = [()]
+    todo = [PlainRun(system, instances)]
     while todo:
-        schedule = todo.pop()
-        run = behind(system, instances, schedule)
-        if run.table.stuck():
-            return True
+        run = todo.pop()
         if run.state() not in seen:
             seen.add(run.state())
-            todo.extend(schedule + (index,) for index in run.with_turn())
-    return False
+            todo.extend(run.after(index) for index in run.with_turn())
+            yield run
+
+
+def all_schedules(system, instances, calm=False):
+    """All schedules there are, or those in which nobody ever waits, each with the run behind it.
+
+    Shorter ones come first, then they ascend.
+    """
+    layer = [((), PlainRun(system, instances))]
+    found = []
+    while layer:
+        found += layer
+        layer = [(schedule + (index,), run.after(index)) for schedule, run in layer for index in run.with_turn()]
+        if calm:
+            layer = [(schedule, run) for schedule, run in layer if not run.table.waiting]
+    return found

@@ -22,11 +22,20 @@ def function_of_this_file():
     return None
 
 
+def nested(kind, depth):
+    """A value of a kind in a value of this kind, and so on."""
+    value = kind(())
+    for _ in range(depth):
+        value = kind((value,))
+    return value
+
+
 # An object of many a built-in kind; none of them is anything that the package takes.
 ODD = [
     None, True, False, -1, 99, 10 ** 5000, 2 + 3j, "", "x" * 13, "S", "\u00e9", "no name", b"s", [], ["s"], (), ((),),
     {}, {"s": 1}, set(), {"s"}, frozenset(), range(3), slice(1), bytearray(b"s"), memoryview(b"s"), object(),
     Ellipsis, NotImplemented, len, int, function_of_this_file, StuckError("s"), StuckError, iter([]),
+    nested(tuple, 50000), nested(list, 50000),
 ]
 
 

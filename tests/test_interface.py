@@ -13,10 +13,27 @@ LANDED = {
         "check_system": ["system"], "positions": ["system"], "held_at": ["system", "template", "step"],
         "asked_at": ["system", "template", "step"], "lesser": ["system", "template"],
     },
+    "stuckrows.texts": {"system_text": ["system"], "read_system": ["text"]},
+    "stuckrows.runs": {
+        "play": ["system", "instances", "schedule"], "stuck_behind": ["system", "instances", "schedule"],
+        "least_schedule": ["system", "instances", "all_of"], "outcomes": ["system", "instances"],
+        "way_to": ["system", "instances", "turns"], "least_ahead": ["system", "instances", "turns"],
+    },
+    "stuckrows.ranks": {
+        "blocking_holds": ["system"], "ranks": ["system"], "shows_ranks": ["system", "paper"],
+        "first_fault": ["system", "paper"],
+    },
     "stuckrows.rings": {
         "can_be_stuck": ["system"], "shortest_ring": ["system"], "fewest": ["system"],
         "shows_ring": ["system", "ring"], "ring_schedule": ["system", "ring"],
     },
+}
+# The arguments that are given by keyword, with their default values.
+BY_KEYWORD = {("least_schedule", "all_of"): False}
+LOCK_TABLE = {
+    "__init__": ["modes"], "ask": ["owner", "item", "mode"], "let_go": ["owner", "item"], "finish": ["owner"],
+    "holds_of": ["owner"], "holders_at": ["item"], "waiters_at": ["item"], "ask_of": ["owner"], "waits_for": ["owner"],
+    "stuck_owners": [], "waiting_ring": [], "least_victims": ["prices"], "copied": [],
 }
 ERRORS = (
     "StuckError InvalidModes InvalidSystem InvalidTemplate InvalidInstances InvalidSchedule InvalidOwner InvalidItem "
@@ -34,8 +51,17 @@ class Interface(unittest.TestCase):
                 parameters = inspect.signature(function).parameters.values()
                 self.assertEqual([parameter.name for parameter in parameters], arguments)
                 for parameter in parameters:
-                    self.assertIs(parameter.kind, inspect.Parameter.POSITIONAL_OR_KEYWORD)
-                    self.assertIs(parameter.default, inspect.Parameter.empty)
+                    key = (name, parameter.name)
+                    by_keyword = key in BY_KEYWORD
+                    self.assertEqual(parameter.kind is inspect.Parameter.KEYWORD_ONLY, by_keyword)
+                    self.assertEqual(parameter.kind is inspect.Parameter.POSITIONAL_OR_KEYWORD, not by_keyword)
+                    self.assertIs(parameter.default, BY_KEYWORD.get(key, inspect.Parameter.empty))
+
+    def test_methods_stand_in_the_class_itself(self):
+        table = importlib.import_module("stuckrows.locks").LockTable
+        self.assertEqual(table.__module__, "stuckrows.locks")
+        for name, arguments in LOCK_TABLE.items():
+            self.assertEqual(list(inspect.signature(vars(table)[name]).parameters), ["self"] + arguments)
 
     def test_errors(self):
         module = importlib.import_module("stuckrows.errors")
