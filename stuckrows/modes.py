@@ -26,12 +26,11 @@ class ModeTable:
 
     def __init__(self, modes):
         names, allowed, joins = modes
-        self.names = names
         self.allowed = {pair: True for pair in allowed}
-        self.joins = {(name, name): name for name in names}
+        self.joins = {name: {name: name} for name in names}
         for first, second, both in joins:
-            self.joins[first, second] = both
-            self.joins[second, first] = both
+            self.joins[first][second] = both
+            self.joins[second][first] = both
 
     def allows(self, held, asked):
         """Whether an owner may be given `asked` while another one holds `held`."""
@@ -39,61 +38,69 @@ class ModeTable:
 
     def join_of(self, held, mode):
         """What an owner that holds `held` holds with `mode`."""
-        return mode if held is None else self.joins[held, mode]
-
-
-def are_rows_of_modes(names, rows, size):
-    """Whether rows are a tuple of tuples of so many modes."""
-    if not isinstance(rows, tuple):
-        return False
-    return all(is_row_of_modes(names, row, size) for row in rows)
-
-
-def is_row_of_modes(names, row, size):
-    """Whether a row is a tuple of so many modes."""
-    return is_tuple(row, size, size) and all(mode in names for mode in row)
+        return mode if held is None else self.joins[held][mode]
 
 
 def is_allowed_part(names, allowed):
     """Whether this can be the second entry of modes."""
-    if not are_rows_of_modes(names, allowed, 2):
+    if not isinstance(allowed, tuple):
         return False
+    for row in allowed:
+        if not isinstance(row, tuple) or len(row) != 2 or row[0] not in names or row[1] not in names:
+            return False
     return len(set(allowed)) == len(allowed)
 
 
 def is_joins_part(names, joins):
     """Whether this can be the third entry of modes."""
-    if not are_rows_of_modes(names, joins, 3):
+    if not isinstance(joins, tuple):
         return False
-    pairs = [(first, second) for place, second in enumerate(names) for first in names[:place]]
-    return sorted([row[:2] for row in joins]) == sorted(pairs)
+    for row in joins:
+        if not isinstance(row, tuple) or len(row) != 3 or row[2] not in names:
+            return False
+        if row[0] not in names or row[1] not in names or names.index(row[0]) >= names.index(row[1]):
+            return False
+    # Each row has a pair that must have one; so all have one if there are as many, and no pair has two.
+    pairs = len({row[:2] for row in joins})
+    return pairs == len(joins) and pairs == len(names) * (len(names) - 1) // 2
 
 
-def join_is_exact(table, first, second):
-    """Whether the join, held and asked, allows and is allowed just as both modes are."""
-    both = table.join_of(first, second)
-    for other in table.names:
-        if table.allows(both, other) != (table.allows(first, other) and table.allows(second, other)):
-            return False
-        if table.allows(other, both) != (table.allows(other, first) and table.allows(other, second)):
-            return False
+def faces_of(names, allowed):
+    """For each mode which ones it allows, held, and by which it is allowed, asked: one bit for each of these."""
+    face = {name: 0 for name in names}
+    bit = {name: 1 << place for place, name in enumerate(names)}
+    for held, asked in allowed:
+        face[held] |= bit[asked]
+        face[asked] |= bit[held] << MOST_MODES
+    return face
+
+
+def order_is_free(modes):
+    """Whether the join of any three modes is the same whichever of them comes last."""
+    names = modes[0]
+    joins = ModeTable(modes).joins
+    for place, third in enumerate(names):
+        for at, second in enumerate(names[:place]):
+            both = joins[second][third]
+            if joins[both][second] != both or joins[both][third] != both:
+                return False
+            for first in names[:at]:
+                whole = joins[both][first]
+                if joins[joins[first][second]][third] != whole or joins[joins[first][third]][second] != whole:
+                    return False
     return True
 
 
-def order_is_free(table, first, second, third):
-    """Whether the join of three modes is the same whichever of them comes last."""
-    whole = table.join_of(table.join_of(first, second), third)
-    if whole != table.join_of(table.join_of(first, third), second):
-        return False
-    return whole == table.join_of(table.join_of(second, third), first)
-
-
-def is_exact(table):
-    """Whether one mode can stand for several ones."""
-    names = table.names
-    if not all(join_is_exact(table, first, second) for first in names for second in names):
-        return False
-    return all(order_is_free(table, first, second, third) for first in names for second in names for third in names)
+def is_exact(modes):
+    """Whether one mode can stand for several ones, in modes of the right form."""
+    names, allowed, joins = modes
+    face = faces_of(names, allowed)
+    for first, second, both in joins:
+        if face[both] != face[first] & face[second]:
+            return False
+    # What several modes tell together does not depend on their order. So neither does their join,
+    # unless several modes tell the same.
+    return len(set(list(face.values()))) == len(names) or order_is_free(modes)
 
 
 def check_modes(modes):
@@ -107,7 +114,7 @@ def check_modes(modes):
         return "allowed"
     if not is_joins_part(names, joins):
         return "joins"
-    return None if is_exact(ModeTable(modes)) else "exact"
+    return None if is_exact(modes) else "exact"
 
 
 def require_modes(modes):
@@ -134,8 +141,11 @@ def standard():
 
 def allow_both_ways(modes):
     """Whether modes that have been checked are symmetric."""
-    table = ModeTable(modes)
-    return all(table.allows(asked, held) for held, asked in modes[1])
+    allowed = {pair: True for pair in modes[1]}
+    for held, asked in modes[1]:
+        if (asked, held) not in allowed:
+            return False
+    return True
 
 
 def is_symmetric(modes):

@@ -1,7 +1,7 @@
 """Spots: the positions of a system, each with all that rings ask about it."""
 
 from stuckrows.modes import ModeTable
-from stuckrows.templates import all_less, asked_by, held_before
+from stuckrows.templates import all_less, asked_by, asking_steps, held_before
 
 # How an item that a member holds stands to the one that it asks for: it is the same
 # one; or a row of the same table of which it is told that its key is less or greater;
@@ -47,9 +47,7 @@ def spots_of(system):
     for index, template in enumerate(templates):
         _, params, orders, steps = template
         less = all_less(orders)
-        for step in range(len(steps)):
-            if asked_by(table, steps, step) is None:
-                continue
+        for step in asking_steps(table, steps):
             spot = Spot(index, step, steps, table)
             spot.tables = {**dict(params), **{name: None for name in fixed}}
             spot.ties = {item: tie_between(spot, item, less) for item in spot.held}

@@ -2,7 +2,7 @@
 
 from stuckrows.errors import InvalidNumber, InvalidSystem, InvalidTemplate, Mismatch
 from stuckrows.modes import ModeTable, allow_both_ways, require_modes
-from stuckrows.words import are_different_names, is_index, is_integer, is_name, is_tuple
+from stuckrows.words import are_different_names, are_names, is_index, is_integer, is_name, is_tuple
 
 MOST_FIXED = 4
 MOST_TEMPLATES = 6
@@ -15,40 +15,52 @@ def all_less(orders):
     less = {pair: True for pair in orders}
     names = sorted({name for pair in orders for name in pair})
     for middle in names:
-        for low in names:
-            for high in names:
-                if (low, middle) in less and (middle, high) in less:
-                    less[low, high] = True
+        lows = [low for low in names if (low, middle) in less]
+        highs = [high for high in names if (middle, high) in less]
+        for low in lows:
+            for high in highs:
+                less[low, high] = True
     return less
+
+
+def can_be_fulfilled(orders):
+    """Whether orders tell of no name that it is less than itself."""
+    left = list(orders)
+    while left:
+        highs = {high: True for _, high in left}
+        # What is not greater than anything is in no circle.
+        others = [pair for pair in left if pair[0] in highs]
+        if len(others) == len(left):
+            return False
+        left = others
+    return True
 
 
 def are_params(params, fixed):
     """Whether this can be the params of a template."""
     if not is_tuple(params, 0, MOST_PARAMS):
         return False
+    names = {}
     for pair in params:
-        if not is_tuple(pair, 2, 2) or not is_name(pair[0]) or not is_name(pair[1]):
+        if not is_tuple(pair, 2, 2) or not are_names(pair) or pair[0] in names or pair[0] in fixed:
             return False
-    names = [param for param, _ in params]
-    return len(set(names)) == len(names) and not any(name in fixed for name in names)
-
-
-def is_order(pair, names, tables):
-    """Whether a value is a pair of params of the same table."""
-    if not is_tuple(pair, 2, 2) or pair[0] not in names or pair[1] not in names:
-        return False
-    return tables[pair[0]] == tables[pair[1]]
+        names[pair[0]] = True
+    return True
 
 
 def are_orders(orders, params):
     """Whether this can be the orders of a template with these params."""
+    if not isinstance(orders, tuple):
+        return False
     tables = dict(params)
     # A list, since a value that is looked for in a dict would have to be hashable.
     names = list(tables)
-    if not isinstance(orders, tuple) or not all(is_order(pair, names, tables) for pair in orders):
-        return False
-    less = all_less(orders)
-    return not any((name, name) in less for name in names)
+    for pair in orders:
+        if not is_tuple(pair, 2, 2) or pair[0] not in names or pair[1] not in names:
+            return False
+        if tables[pair[0]] != tables[pair[1]]:
+            return False
+    return can_be_fulfilled(orders)
 
 
 def is_template_form(template, fixed, taken):
@@ -61,14 +73,13 @@ def is_template_form(template, fixed, taken):
     return are_params(params, fixed) and are_orders(orders, params) and is_tuple(steps, 1, MOST_STEPS)
 
 
-def is_lock(step, items, modes):
-    """Whether a value has the form of a lock step."""
-    return is_tuple(step, 3, 3) and step[0] == "lock" and step[1] in items and step[2] in modes
-
-
-def is_free(step, items):
-    """Whether a value has the form of a free step."""
-    return is_tuple(step, 2, 2) and step[0] == "free" and step[1] in items
+def is_step(step, items, modes):
+    """Whether a value has the form of a step, whatever stands before it."""
+    if not isinstance(step, tuple) or len(step) < 2 or step[1] not in items:
+        return False
+    if step[0] == "lock":
+        return len(step) == 3 and step[2] in modes
+    return step[0] == "free" and len(step) == 2
 
 
 def first_wrong_step(template, fixed, modes):
@@ -77,12 +88,13 @@ def first_wrong_step(template, fixed, modes):
     # For each item that was locked, whether it still is.
     held = {}
     for place, step in enumerate(template[3]):
-        if is_lock(step, items, modes) and held.get(step[1], True):
-            held[step[1]] = True
-        elif is_free(step, items) and held.get(step[1], False):
-            held[step[1]] = False
-        else:
+        if not is_step(step, items, modes):
             return place
+        locks = step[0] == "lock"
+        # A lock step finds the item held, or never locked before; a free step finds it held.
+        if not held.get(step[1], locks):
+            return place
+        held[step[1]] = locks
     return None
 
 
@@ -140,6 +152,20 @@ def asked_by(table, steps, step):
     return None if ask == held else (row[1], ask)
 
 
+def asking_steps(table, steps):
+    """The list of the places of the steps that ask for more than is held."""
+    held = {}
+    places = []
+    for place, row in enumerate(steps):
+        # What was freed is not locked again, so it may stay there.
+        if row[0] == "lock":
+            before = held.get(row[1])
+            held[row[1]] = table.join_of(before, row[2])
+            if held[row[1]] != before:
+                places.append(place)
+    return places
+
+
 def are_keys(template, keys):
     """Whether a value is the keys of an instance of a template."""
     params = template[1]
@@ -172,8 +198,7 @@ def positions(system):
     table = ModeTable(system[0])
     found = []
     for index, template in enumerate(system[2]):
-        steps = template[3]
-        found.extend([(index, step) for step in range(len(steps)) if asked_by(table, steps, step) is not None])
+        found.extend([(index, step) for step in asking_steps(table, template[3])])
     return found
 
 

@@ -1,14 +1,21 @@
 """Small questions about plain values that several modules ask."""
 
-LETTERS = "abcdefghijklmnopqrstuvwxyz"
 LONGEST_NAME = 12
 
 
 def is_name(value):
     """Whether a value is a string of 1 to 12 letters from a to z."""
-    if not isinstance(value, str) or not 1 <= len(value) <= LONGEST_NAME:
+    if not isinstance(value, str) or len(value) > LONGEST_NAME:
         return False
-    return all(letter in LETTERS for letter in value)
+    return value.isascii() and value.isalpha() and value.islower()
+
+
+def are_names(values):
+    """Whether all of some values are names."""
+    for value in values:
+        if not is_name(value):
+            return False
+    return True
 
 
 def is_integer(value):
@@ -28,11 +35,7 @@ def is_tuple(value, least, most):
 
 def are_different_names(value, least, most):
     """Whether a value is a tuple of so many names, none of them twice."""
-    if not is_tuple(value, least, most):
-        return False
-    if not all(is_name(entry) for entry in value):
-        return False
-    return len(set(value)) == len(value)
+    return is_tuple(value, least, most) and are_names(value) and len(set(value)) == len(value)
 
 
 def is_item(value):

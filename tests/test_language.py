@@ -17,7 +17,7 @@ BARRED = re.compile(r"\b(type|typing|enum|Enum|namedtuple|NamedTuple|ABC|Protoco
 METHODS = set(
     "append clear copy count endswith extend find get index insert isalnum isalpha isdigit islower isspace isupper "
     "items join keys ljust lower lstrip partition pop remove replace reverse rfind rjust rpartition rsplit rstrip "
-    "setdefault split splitlines startswith strip update upper values zfill bit_length add discard sort".split()
+    "setdefault split splitlines startswith strip update upper values zfill bit_length add discard sort isascii".split()
 )
 FORBIDDEN = (
     ast.Global, ast.AsyncFunctionDef, ast.Await, ast.Import, ast.AnnAssign, ast.Yield, ast.YieldFrom, ast.TryStar,
