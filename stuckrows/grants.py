@@ -132,7 +132,7 @@ class Grants:
     def copied(self):
         """Grants that stand as these do."""
         other = Grants(self.table)
-        other.held = {owner: dict(self.held[owner]) for owner in self.held}
+        other.held = {owner: {item: held[item] for item in held} for owner, held in self.held.items()}
         other.holders = {item: dict(self.holders[item]) for item in self.holders}
         other.conversions = {item: list(self.conversions[item]) for item in self.conversions}
         other.queues = {item: list(self.queues[item]) for item in self.queues}
