@@ -41,6 +41,18 @@ class Links:
         """The spot of a node."""
         return self.spots[self.nodes[node][0]]
 
+    def template_at(self, node):
+        """The template of a node."""
+        return self.spots[self.nodes[node][0]].template
+
+    def nodes_of(self, templates):
+        """The set of the nodes of some templates."""
+        found = 0
+        for node in range(len(self.nodes)):
+            if self.template_at(node) in templates:
+                found |= 1 << node
+        return found
+
     def room_at(self, node):
         """The set of the nodes that go together with a node at the fixed items."""
         return self.rooms[self.nodes[node][0]]

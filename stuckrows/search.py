@@ -32,10 +32,18 @@ class Start:
         self.tie = tie
         self.after = after
         self.node = index
-        self.room = doubled(links.rooms[index], size)
         close = closing_nodes(links, links.spots[index], tie)
-        self.far = distances(after, close if tie == "same" else close << size, self.room)
-        ends = [self.far[node] for node in bits(after[self.node] & self.room) if node in self.far]
+        self.close = close if tie == "same" else close << size
+
+
+class Trip:
+    """A start with the nodes that may follow, and how many members at least are left from each."""
+
+    def __init__(self, start, room):
+        self.start = start
+        self.room = room
+        self.far = distances(start.after, start.close, room)
+        ends = [self.far[node] for node in bits(start.after[start.node] & room) if node in self.far]
         # So many members a ring from here has at least; None if there is no ring.
         self.least = min(ends) + 2 if ends else None
 
@@ -110,19 +118,33 @@ def distances(after, close, room):
 
 
 def starts_of(links):
-    """All starts from which a ring may come, those of the shortest ones first."""
+    """All starts from which a ring may come."""
     graphs = {tie: graph_of(links, tie) for tie in TIES}
     starts = []
     for index, spot in enumerate(links.spots):
         for tie in TIES:
             if holds_tied(spot, tie):
                 starts.append(Start(links, index, tie, graphs[tie]))
-    return sorted([start for start in starts if start.least is not None], key=lambda start: start.least)
+    return starts
 
 
-def is_covered(kept, node, room, size):
-    """Whether an earlier walk, so no longer one, came to the node as loose and with as much room."""
-    return any(room & ~other == 0 for other in kept.get(node, []) + kept.get(node + size, []))
+def trips_of(links, starts, allowed):
+    """The trips over a set of nodes, those of the shortest rings first."""
+    trips = []
+    for start in starts:
+        if allowed >> start.node & 1:
+            room = doubled(links.room_at(start.node) & allowed, len(links.nodes))
+            trips.append(Trip(start, room))
+    return sorted([trip for trip in trips if trip.least is not None], key=lambda trip: trip.least)
+
+
+def is_covered(kept, node, told, size, bound):
+    """Whether an earlier walk, so no longer one, came to the node as loose and with as much left."""
+    room, counts = told
+    for other, known in kept.get(node, []) + kept.get(node + size, []):
+        if room & ~other == 0 and bound.covers(known, counts):
+            return True
+    return False
 
 
 def walk_back(states, at):
@@ -134,36 +156,42 @@ def walk_back(states, at):
     return list(reversed(walk))
 
 
-def walk_from(links, start, most):
-    """The nodes of a shortest ring from the start, None if none has at most `most` members."""
+def walk_from(links, trip, most, bound):
+    """The nodes of a shortest ring within a bound from a trip's start, None if none has at most `most` members."""
     size = len(links.nodes)
+    start = trip.start
+    far = trip.far
     kept = {}
-    # The last node, the set of the nodes that go with all members, the state before, the members.
-    states = [(start.node, start.room, -1, 1)]
+    first = bound.with_one(bound.none_yet, links.template_at(start.node))
+    # The last node, the nodes that go with all members and the counts, the state before, the members.
+    states = [] if first is None else [(start.node, (trip.room, first), -1, 1)]
     at = 0
     while at < len(states):
-        node, room, _, members = states[at]
+        node, (room, counts), _, members = states[at]
         for target in bits(start.after[node] & room):
-            if target not in start.far or (most is not None and members + 1 + start.far[target] > most):
+            if target not in far or (most is not None and members + 1 + far[target] > most):
                 continue
-            if start.far[target] == 0:
+            more = bound.with_one(counts, links.template_at(target % size))
+            if more is None:
+                continue
+            if far[target] == 0 and bound.ends(more):
                 return walk_back(states, at) + [target]
-            rest = room & doubled(links.room_at(target % size), size)
-            if not is_covered(kept, target, rest, size):
+            rest = (room & doubled(links.room_at(target % size), size), more)
+            if not is_covered(kept, target, rest, size, bound):
                 kept.setdefault(target, []).append(rest)
                 states.append((target, rest, at, members + 1))
         at += 1
     return None
 
 
-def shortest_walk(links):
-    """A tuple (start, nodes) for a shortest ring, None if there is none."""
+def shortest_walk(links, trips, bound):
+    """A tuple (start, nodes) for a shortest ring within a bound, None if there is none."""
     best = None
-    for start in starts_of(links):
+    for trip in trips:
         most = None if best is None else len(best[1]) - 1
-        if most is not None and start.least > most:
+        if most is not None and trip.least > most:
             break
-        walk = walk_from(links, start, most)
+        walk = walk_from(links, trip, most, bound)
         if walk is not None:
-            best = (start, walk)
+            best = (trip.start, walk)
     return best

@@ -124,11 +124,21 @@ def frees_fixed(system):
     return any(step[0] == "free" and step[1] in fixed for template in templates for step in template[3])
 
 
+def allows_rings(system):
+    """Whether rings speak of a system that has been checked."""
+    return allow_both_ways(system[0]) and not frees_fixed(system)
+
+
+def require_rings(system):
+    """Raises Mismatch for a system, one that has been checked, that rings do not speak of."""
+    if not allows_rings(system):
+        raise Mismatch("system")
+
+
 def check_ring_system(system):
     """Raises the errors of a system, and Mismatch for one that rings do not speak of."""
     check_system(system)
-    if not allow_both_ways(system[0]) or frees_fixed(system):
-        raise Mismatch("system")
+    require_rings(system)
 
 
 def held_before(table, steps, step):

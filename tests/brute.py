@@ -104,6 +104,31 @@ class Plain:
         words = [self.waits(one, other) for one, other in zip(told, told[1:] + told[:1])]
         return None not in words and "direct" in words
 
+    def all_rings(self, most, keys):
+        """All rings of at most so many members with these keys, each of them from one of its direct waits on."""
+        members = self.members(keys)
+        told = [self.told(member) for member in members]
+        apart = [[self.go_together(one, other) for other in told] for one in told]
+        words = [[self.waits(one, other) for other in told] for one in told]
+        rows = [[first] for first in range(len(told))]
+        rings = []
+        for _ in range(most - 1):
+            longer = []
+            for row in rows:
+                for other, word in enumerate(words[row[-1]]):
+                    if word == "direct" or word and len(row) > 1:
+                        if all(apart[other][earlier] for earlier in row):
+                            longer.append(row + [other])
+            rings.extend([members[place] for place in row] for row in longer if words[row[-1]][row[0]])
+            rows = longer
+        return rings
+
+    def all_counts(self, most, keys):
+        """The counts of all rings of at most so many members with these keys."""
+        size = len(self.templates)
+        rings = self.all_rings(most, keys)
+        return {tuple(sum(one[0] == index for one in ring) for index in range(size)) for ring in rings}
+
     def fewest(self, most, keys):
         """The fewest members, at most `most`, of a ring with these keys; None if there is none."""
         told = [self.told(member) for member in self.members(keys)]

@@ -27,6 +27,24 @@ LANDED = {
         "can_be_stuck": ["system"], "shortest_ring": ["system"], "fewest": ["system"],
         "shows_ring": ["system", "ring"], "ring_schedule": ["system", "ring"],
     },
+    "stuckrows.limits": {
+        "can_be_stuck_within": ["system", "limits"], "ring_within": ["system", "limits"], "least_counts": ["system"],
+        "safe_limits": ["system"], "fewest_of": ["system", "template"],
+    },
+    "stuckrows.orders": {
+        "further_orders": ["system"], "with_orders": ["system", "orders"], "least_orders": ["system", "most"],
+        "orders_paper": ["system", "most"], "shows_fewest": ["system", "orders", "paper"],
+        "needless_orders": ["system"], "fewest_kept": ["system"], "full_orders": ["system"],
+    },
+    "stuckrows.remedies": {
+        "changes": ["system"], "with_changes": ["system", "some"], "least_remedy": ["system", "prices", "most"],
+        "remedy_paper": ["system", "prices", "most"], "touched": ["system"],
+        "shows_least": ["system", "prices", "most", "some", "paper"],
+    },
+    "stuckrows.levels": {
+        "spread": ["system", "levels"], "escalated": ["system", "levels", "counts"],
+        "bad_counts": ["system", "levels"],
+    },
 }
 # The arguments that are given by keyword, with their default values.
 BY_KEYWORD = {("least_schedule", "all_of"): False}

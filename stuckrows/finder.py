@@ -1,0 +1,37 @@
+"""Finders: rings of one system, looked for again and again."""
+
+from stuckrows.bounds import AnyRing, LeastCounts
+from stuckrows.links import Links
+from stuckrows.members import ring_of
+from stuckrows.search import shortest_walk, starts_of, trips_of
+
+
+class Finder:
+    """A system that has been checked, with all that its rings have in common."""
+
+    def __init__(self, system):
+        self.system = system
+        self.links = Links(system)
+        self.starts = starts_of(self.links)
+
+    def ring_among(self, templates, bound):
+        """A shortest ring of some templates within a bound, None if there is none."""
+        trips = trips_of(self.links, self.starts, self.links.nodes_of(templates))
+        found = shortest_walk(self.links, trips, bound)
+        if found is None:
+            return None
+        start, walk = found
+        return ring_of(self.system, self.links, start, walk)
+
+    def least_counts(self):
+        """The ascending list of the counts of rings within which no others are."""
+        bound = LeastCounts(len(self.system[2]))
+        trips = trips_of(self.links, self.starts, self.links.nodes_of(range(len(self.system[2]))))
+        # No walk ends the search, so all are followed.
+        shortest_walk(self.links, trips, bound)
+        return sorted(bound.found)
+
+
+def find_ring(system):
+    """A shortest ring of a system that has been checked, None if there is none."""
+    return Finder(system).ring_among(range(len(system[2])), AnyRing())
