@@ -105,6 +105,32 @@ class LeastCounts:
         return is_within(counts, other)
 
 
+class LeastSupports:
+    """No ring at all; but the sets of templates of the rings that are met are kept, one bit for each template."""
+
+    def __init__(self):
+        self.none_yet = 0
+        self.found = []
+
+    def with_one(self, counts, template):
+        """What has all templates of a known ring leads to nothing new."""
+        more = counts | 1 << template
+        for known in self.found:
+            if known & ~more == 0:
+                return None
+        return more
+
+    def ends(self, counts):
+        """Keeps the set, and goes on."""
+        self.found = [known for known in self.found if counts & ~known]
+        self.found.append(counts)
+        return False
+
+    def covers(self, counts, other):
+        """Whether the first one leads to all that is new behind the other one."""
+        return counts & ~other == 0
+
+
 def is_within(counts, others):
     """Whether no count is greater than the one at its place."""
     for count, other in zip(counts, others):

@@ -1,6 +1,6 @@
 """Finders: rings of one system, looked for again and again."""
 
-from stuckrows.bounds import AnyRing, LeastCounts
+from stuckrows.bounds import AnyRing, LeastCounts, LeastSupports
 from stuckrows.links import Links
 from stuckrows.members import ring_of
 from stuckrows.search import shortest_walk, starts_of, trips_of
@@ -23,12 +23,21 @@ class Finder:
         start, walk = found
         return ring_of(self.system, self.links, start, walk)
 
+    def follow_all(self, bound):
+        """Follows all walks, where no walk ends the search."""
+        trips = trips_of(self.links, self.starts, self.links.nodes_of(range(len(self.system[2]))))
+        shortest_walk(self.links, trips, bound)
+
     def least_counts(self):
         """The ascending list of the counts of rings within which no others are."""
         bound = LeastCounts(len(self.system[2]))
-        trips = trips_of(self.links, self.starts, self.links.nodes_of(range(len(self.system[2]))))
-        # No walk ends the search, so all are followed.
-        shortest_walk(self.links, trips, bound)
+        self.follow_all(bound)
+        return sorted(bound.found)
+
+    def least_supports(self):
+        """The ascending list of the sets of templates of rings within which no others are, as integers."""
+        bound = LeastSupports()
+        self.follow_all(bound)
         return sorted(bound.found)
 
 

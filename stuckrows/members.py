@@ -2,7 +2,6 @@
 
 from stuckrows.search import TIED_BY, can_close, holds_tied
 from stuckrows.spots import TIES
-from stuckrows.templates import all_less
 
 
 def tie_used(links, start, before, after):
@@ -67,20 +66,28 @@ def ordered_keys(count, pairs):
     return keys
 
 
+def keys_for(templates, bound):
+    """For each of some instances its keys; `bound` has a dict from params to the numbers of their rows for each.
+
+    Rows of different numbers have different keys, and what is not bound is a row that nobody else has.
+    """
+    count = max([row for rows in bound for row in rows.values()], default=-1) + 1
+    numbers = []
+    pairs = []
+    for (_, params, orders, _), rows in zip(templates, bound):
+        row_of = {}
+        for param, _ in params:
+            row_of[param] = rows[param] if param in rows else count
+            count = max(count, row_of[param] + 1)
+        pairs.extend([(row_of[low], row_of[high]) for low, high in orders])
+        numbers.append([row_of[name] for name, _ in params])
+    keys = ordered_keys(count, pairs)
+    return [tuple([keys[row] for row in mine]) for mine in numbers]
+
+
 def ring_of(system, links, start, walk):
     """The members of the ring that a walk tells, as a list of (template, step, keys)."""
     spots = [links.spot_at(node % len(links.nodes)) for node in walk]
-    count = len(walk)
-    rows = []
-    pairs = []
-    for spot, bound in zip(spots, bound_rows(links, start, walk)):
-        _, params, orders, _ = system[2][spot.template]
-        row_of = {}
-        for param, _ in params:
-            # What the ring does not bind is a row that nobody else has.
-            row_of[param] = bound[param] if param in bound else count
-            count = max(count, row_of[param] + 1)
-        pairs.extend([(row_of[low], row_of[high]) for low, high in all_less(orders)])
-        rows.append([row_of[name] for name, _ in params])
-    keys = ordered_keys(count, pairs)
-    return [(spot.template, spot.step, tuple([keys[row] for row in mine])) for spot, mine in zip(spots, rows)]
+    templates = [system[2][spot.template] for spot in spots]
+    keys = keys_for(templates, bound_rows(links, start, walk))
+    return [(spot.template, spot.step, mine) for spot, mine in zip(spots, keys)]

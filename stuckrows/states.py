@@ -30,19 +30,20 @@ class Run:
         return [index for index in range(len(self.done)) if not self.waits(index) and not self.has_ended(index)]
 
     def do_turn(self, index):
-        """An instance that has a turn does it."""
+        """An instance that has a turn does it; the list of (index, item) of the asks of others that it grants."""
         granted = []
         if self.done[index] == len(self.steps[index]):
-            granted = [other for other, _ in self.grants.end(index)]
+            granted = self.grants.end(index)
         else:
             step = self.steps[index][self.done[index]]
             if step[0] == "free":
-                granted = self.grants.free(index, step[1])
+                granted = [(other, step[1]) for other in self.grants.free(index, step[1])]
             elif not self.grants.ask(index, step[1], step[2]):
-                return
+                return granted
         self.done[index] += 1
-        for other in granted:
+        for other, _ in granted:
             self.done[other] += 1
+        return granted
 
     def copied(self):
         """A run that stands as this one does."""

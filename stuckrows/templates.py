@@ -108,14 +108,18 @@ def check_system(system):
         raise InvalidSystem("fixed")
     if not is_tuple(templates, 1, MOST_TEMPLATES):
         raise InvalidSystem("templates")
-    taken = []
-    for index, template in enumerate(templates):
-        if not is_template_form(template, fixed, taken):
-            raise InvalidTemplate(index, -1)
-        place = first_wrong_step(template, fixed, modes[0])
-        if place is not None:
-            raise InvalidTemplate(index, place)
-        taken.append(template[0])
+    for index in range(len(templates)):
+        check_template_at(modes, fixed, templates, index)
+
+
+def check_template_at(modes, fixed, templates, index):
+    """Raises InvalidTemplate if an entry is no template behind the templates before it."""
+    taken = [template[0] for template in templates[:index]]
+    if not is_template_form(templates[index], fixed, taken):
+        raise InvalidTemplate(index, -1)
+    place = first_wrong_step(templates[index], fixed, modes[0])
+    if place is not None:
+        raise InvalidTemplate(index, place)
 
 
 def frees_fixed(system):

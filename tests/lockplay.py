@@ -229,3 +229,34 @@ def all_schedules(system, instances, calm=False):
         if calm:
             layer = [(schedule, run) for schedule, run in layer if not run.table.waiting]
     return found
+
+
+def plain_tape(system, instances, schedule):
+    """The lists of (time, instance, item, mode) of what is freed and what is taken behind a schedule."""
+    run = PlainRun(system, instances)
+    freed, taken = [], []
+    for place, index in enumerate(schedule):
+        before = list(run.table.holds)
+        run.turn(index)
+        left = {row[:2] for row in run.table.holds}
+        freed += [(2 * place,) + row for row in before if row[:2] not in left]
+        taken += [(2 * place + 1,) + row for row in run.table.holds if row not in before]
+    return freed, taken
+
+
+def plain_pairs(system, instances, schedule):
+    """The ascending list of the pairs of which the first is ahead of the other one."""
+    freed, taken = plain_tape(system, instances, schedule)
+    return sorted({
+        (first, other)
+        for time, first, item, mode in freed for later, other, what, asked in taken
+        if what == item and later > time and (mode, asked) not in system[0][1]
+    })
+
+
+def plain_order(size, pairs):
+    """The least row of all instances in which each stands before those that it is ahead of."""
+    for row in permutations(range(size)):
+        if all(row.index(first) < row.index(other) for first, other in pairs):
+            return list(row)
+    return None

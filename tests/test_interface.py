@@ -45,6 +45,20 @@ LANDED = {
         "spread": ["system", "levels"], "escalated": ["system", "levels", "counts"],
         "bad_counts": ["system", "levels"],
     },
+    "stuckrows.early": {
+        "ahead_pairs": ["system", "instances", "schedule"], "order_of": ["system", "instances", "schedule"],
+        "can_be_disorderly": ["system"], "shortest_disorder": ["system"], "fewest_disorderly": ["system"],
+        "shows_disorder": ["system", "disorder"],
+    },
+    "stuckrows.frees": {
+        "slots": ["system"], "places_now": ["system"], "with_places": ["system", "places"],
+        "earliest": ["system", "order"], "calm_places": ["system"],
+    },
+    "stuckrows.strangers": {"stranger_ring": ["system", "stranger"], "safe_asks": ["system", "held"]},
+    "stuckrows.companies": {
+        "company_ring": ["system", "company"], "least_companies": ["system"], "safe_companies": ["system"],
+        "least_removal": ["system", "prices"],
+    },
 }
 # The arguments that are given by keyword, with their default values.
 BY_KEYWORD = {("least_schedule", "all_of"): False}
