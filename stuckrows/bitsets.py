@@ -1,11 +1,21 @@
-"""Sets of small numbers as integers, with one bit for each number."""
+"""Sets of small numbers as integers: bit n is set if n is in the set."""
 
 
 def bits(members):
     """The ascending list of the numbers in a set."""
     found = []
     while members:
-        lowest = members & -members
-        found.append(lowest.bit_length() - 1)
-        members ^= lowest
+        low = members & -members
+        found.append(low.bit_length() - 1)
+        members ^= low
+    return found
+
+
+def single_bits(members):
+    """The ascending list of the sets of one number each that are in a set."""
+    found = []
+    while members:
+        low = members & -members
+        found.append(low)
+        members ^= low
     return found

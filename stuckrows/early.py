@@ -4,8 +4,8 @@ from stuckrows.disorders import find_disorder
 from stuckrows.errors import InvalidSchedule
 from stuckrows.instances import check_instances, is_instance
 from stuckrows.orderly import check_orderly
-from stuckrows.states import run_of
 from stuckrows.tapes import Tape
+from stuckrows.turns import run_of
 from stuckrows.words import is_integer, is_tuple
 
 

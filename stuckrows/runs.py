@@ -2,7 +2,9 @@
 
 from stuckrows.errors import InvalidNumber, InvalidSchedule, TooLarge
 from stuckrows.instances import check_instances
-from stuckrows.states import count_ends, least_done, least_way, leads_to, run_of, schedule_to, states_of
+from stuckrows.plans import Plan
+from stuckrows.states import States, least_done, least_way
+from stuckrows.turns import run_of
 from stuckrows.waiting import stuck_of
 from stuckrows.words import is_integer
 
@@ -44,7 +46,7 @@ def all_states(system, instances):
     """All states of a few instances that have been checked."""
     if len(instances) > MOST_LOOKED_AT:
         raise TooLarge(MOST_LOOKED_AT)
-    return states_of(system, instances)
+    return States(Plan(system, instances))
 
 
 def least_schedule(system, instances, *, all_of=False):
@@ -52,18 +54,15 @@ def least_schedule(system, instances, *, all_of=False):
     check_instances(system, instances)
     if not isinstance(all_of, bool):
         raise InvalidNumber("all_of")
-    wanted = len(instances) if all_of else 1
     states = all_states(system, instances)
-    for at, state in enumerate(states):
-        if len(stuck_of(state.run.grants.waits())) >= wanted:
-            return schedule_to(states, at)
-    return None
+    at = states.first_stuck(all_of)
+    return None if at is None else states.schedule_to(at)
 
 
 def outcomes(system, instances):
     """How many schedules that cannot go on end all instances, and how many do not."""
     check_instances(system, instances)
-    return count_ends(all_states(system, instances))
+    return all_states(system, instances).count_ends()
 
 
 def are_turns(system, instances, turns):
@@ -82,7 +81,7 @@ def ways_to(system, instances, turns):
     if not are_turns(system, instances, turns):
         raise InvalidNumber("turns")
     states = all_states(system, instances)
-    return (states, leads_to(states, list(turns)))
+    return (states, states.leads_to(turns))
 
 
 def way_to(system, instances, turns):

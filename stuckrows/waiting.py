@@ -89,13 +89,78 @@ def least_ring(after):
     return ring
 
 
+def groups_of(after):
+    """The sets of the places that are in rings with one another; who is in no ring is in none of them."""
+    reach = list(after)
+    for middle, others in enumerate(after):
+        for place in range(len(after)):
+            if reach[place] >> middle & 1:
+                reach[place] |= reach[middle] | others
+    groups = {}
+    for place, others in enumerate(reach):
+        if others >> place & 1:
+            # Those in one ring reach the same places.
+            groups[others] = groups.get(others, 0) | 1 << place
+    return list(groups.values())
+
+
+class Ending:
+    """The search for the cheapest places of a group without which no ring is left in it."""
+
+    def __init__(self, after, before, prices):
+        self.after = after
+        self.before = before
+        self.prices = prices
+        # The least (price, count, places) that is known.
+        self.best = None
+
+    def without(self, left, place):
+        """What is left of places that each wait for one another when one of them has ended."""
+        left ^= 1 << place
+        gone = [place]
+        while gone:
+            for other in bits(self.before[gone.pop()] & left):
+                if self.after[other] & left == 0:
+                    left ^= 1 << other
+                    gone.append(other)
+        return left
+
+    def ring_in(self, left):
+        """The places of a ring among places that each wait for one another, of two if there is one."""
+        for place in bits(left):
+            pair = self.after[place] & self.before[place] & left
+            if pair:
+                return [place, bits(pair)[0]]
+        row = []
+        place = bits(left)[0]
+        while place not in row:
+            row.append(place)
+            place = bits(self.after[place] & left)[0]
+        return row[row.index(place):]
+
+    def look(self, left, free, ended, told):
+        """Ends those that may be, so that no ring is left; `told` is the price and the number of those that have."""
+        if left == 0:
+            found = told + (bits(ended),)
+            if self.best is None or found < self.best:
+                self.best = found
+            return
+        for place in self.ring_in(left):
+            if free >> place & 1:
+                # Whatever holds with this place ended is looked at here; so behind it this place is kept.
+                free ^= 1 << place
+                more = (told[0] + self.prices[place], told[1] + 1)
+                if self.best is None or more <= self.best[:2]:
+                    self.look(self.without(left, place), free, ended | 1 << place, more)
+
+
 def cheapest_end(after, prices):
     """The places with the least sum of prices without which no ring is left; the shortest, then the least list."""
-    everything = (1 << len(after)) - 1
-    best = None
-    for ended in range(everything + 1):
-        places = bits(ended)
-        told = (sum([prices[place] for place in places]), len(places), places)
-        if (best is None or told < best) and stuck_among(after, everything & ~ended) == 0:
-            best = told
-    return best[2]
+    before = before_of(after)
+    places = []
+    for group in groups_of(after):
+        # Rings of several groups have no place in common; so the least of each are the least of all.
+        ending = Ending([others & group for others in after], [others & group for others in before], prices)
+        ending.look(group, group, 0, (0, 0))
+        places.extend(ending.best[2])
+    return sorted(places)
