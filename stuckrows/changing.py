@@ -1,9 +1,9 @@
 """Changes of templates: which ones there are, which can be done together, and what comes of them."""
 
 from stuckrows.errors import Mismatch
+from stuckrows.forms import MOST_FIXED, MOST_STEPS
 from stuckrows.further import go_together, ordered, orders_of
 from stuckrows.modes import ModeTable
-from stuckrows.templates import MOST_FIXED, MOST_STEPS
 from stuckrows.words import is_integer
 
 WORDS = ("swap", "whole", "order", "gate")

@@ -12,8 +12,9 @@ with what the halted instance holds there.
 from stuckrows.bitsets import bits
 from stuckrows.members import keys_for
 from stuckrows.modes import ModeTable
+from stuckrows.orderings import all_less
 from stuckrows.search import TIED_BY
-from stuckrows.templates import all_less, asking_steps, held_before
+from stuckrows.templates import asking_steps, held_before
 
 # Where a way is: still at the row that is taken last, or beyond it and tied, or loose.
 HERE = 0

@@ -16,7 +16,7 @@ def pairs_behind(system, instances, schedule):
         raise InvalidSchedule(-1)
     tape = Tape(run_of(system, instances))
     for place, index in enumerate(schedule):
-        if not is_integer(index) or index not in tape.run.with_turn():
+        if not tape.run.has_turn(index):
             raise InvalidSchedule(place)
         tape.do_turn(index)
     indexes = range(len(instances))

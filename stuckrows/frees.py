@@ -3,9 +3,10 @@
 from stuckrows.disorders import find_disorder
 from stuckrows.errors import InvalidNumber, TooLarge
 from stuckrows.finder import find_ring
+from stuckrows.forms import MOST_STEPS
 from stuckrows.orderly import check_orderly, require_orderly
 from stuckrows.placing import all_slots, are_places, most_steps, place_now, placed
-from stuckrows.templates import MOST_STEPS, check_system
+from stuckrows.templates import check_system
 from stuckrows.words import is_integer, is_tuple
 
 MOST_LISTS = 300

@@ -2,7 +2,7 @@
 
 from itertools import permutations
 
-from stuckrows.templates import all_less
+from stuckrows.orderings import all_less
 
 
 def one_of_each(rows):

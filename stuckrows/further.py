@@ -1,7 +1,7 @@
 """Further orders of keys: what can be told beyond the orders of templates."""
 
 from stuckrows.errors import Mismatch
-from stuckrows.templates import all_less, can_be_fulfilled
+from stuckrows.orderings import all_less, can_be_fulfilled
 from stuckrows.words import is_index, is_tuple
 
 

@@ -23,7 +23,10 @@ class Grants:
     def is_allowed(self, owner, item, ask):
         """Whether all other holders of the item allow the ask."""
         holders = self.holders.get(item, {})
-        return all(self.table.allows(holders[other], ask) for other in holders if other != owner)
+        for other in holders:
+            if other != owner and not self.table.allows(holders[other], ask):
+                return False
+        return True
 
     def give(self, owner, item, mode):
         """The owner holds the item in this mode from now on."""

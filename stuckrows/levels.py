@@ -2,8 +2,9 @@
 
 from stuckrows.errors import Mismatch, TooLarge
 from stuckrows.finder import find_ring
+from stuckrows.forms import MOST_FIXED, MOST_STEPS
 from stuckrows.modes import ModeTable
-from stuckrows.templates import MOST_FIXED, MOST_STEPS, check_ring_system
+from stuckrows.templates import check_ring_system
 from stuckrows.words import is_integer, is_tuple
 
 

@@ -1,7 +1,7 @@
 """Modes of locks: what they allow and what they are together."""
 
 from stuckrows.errors import InvalidMode, InvalidModes
-from stuckrows.words import are_different_names, is_tuple
+from stuckrows.words import are_names
 
 MOST_MODES = 6
 USUAL_NAMES = ("is", "ix", "s", "u", "six", "x")
@@ -19,6 +19,8 @@ USUAL_JOINS = (
     ("u", "six", "six"), ("u", "x", "x"),
     ("six", "x", "x"),
 )
+# Shared and exclusive locks, the only modes of many systems.
+READ_AND_WRITE = (("s", "x"), (("s", "s"),), (("s", "x", "x"),))
 
 
 class ModeTable:
@@ -41,38 +43,63 @@ class ModeTable:
         return mode if held is None else self.joins[held][mode]
 
 
-def is_allowed_part(names, allowed):
-    """Whether this can be the second entry of modes."""
+class Joins:
+    """The joins of modes of the right form, for a few questions only."""
+
+    def __init__(self, modes):
+        self.rows = modes[2]
+
+    def join_of(self, held, mode):
+        """What an owner that holds `held` holds with `mode`."""
+        if held is None or held == mode:
+            return mode
+        for first, second, both in self.rows:
+            if first == held and second == mode or first == mode and second == held:
+                return both
+        return None
+
+
+def has_faces(bit, face, allowed):
+    """Whether this can be the second entry of modes that have these bits; then puts the faces of the modes in a dict.
+
+    A face tells which modes one allows, held, and by which it is allowed, asked: one bit for each of these.
+    """
     if not isinstance(allowed, tuple):
         return False
+    names = list(bit)
     for row in allowed:
-        if not isinstance(row, tuple) or len(row) != 2 or row[0] not in names or row[1] not in names:
+        if not isinstance(row, tuple) or len(row) != 2:
             return False
-    return len(set(allowed)) == len(allowed)
-
-
-def is_joins_part(names, joins):
-    """Whether this can be the third entry of modes."""
-    if not isinstance(joins, tuple):
-        return False
-    for row in joins:
-        if not isinstance(row, tuple) or len(row) != 3 or row[2] not in names:
+        held, asked = row
+        if held not in names or asked not in names or face[held] & bit[asked]:
             return False
-        if row[0] not in names or row[1] not in names or names.index(row[0]) >= names.index(row[1]):
-            return False
-    # Each row has a pair that must have one; so all have one if there are as many, and no pair has two.
-    pairs = len({row[:2] for row in joins})
-    return pairs == len(joins) and pairs == len(names) * (len(names) - 1) // 2
-
-
-def faces_of(names, allowed):
-    """For each mode which ones it allows, held, and by which it is allowed, asked: one bit for each of these."""
-    face = {name: 0 for name in names}
-    bit = {name: 1 << place for place, name in enumerate(names)}
-    for held, asked in allowed:
         face[held] |= bit[asked]
         face[asked] |= bit[held] << MOST_MODES
-    return face
+    return True
+
+
+def wrong_joins(bit, joins, face):
+    """What is wrong with the third entry of modes, "joins" or "exact"; None if nothing is."""
+    names = list(bit)
+    # Each row has a pair that must have one; so all have one if there are as many, and no pair has two.
+    if not isinstance(joins, tuple) or len(joins) != len(names) * (len(names) - 1) // 2:
+        return "joins"
+    pairs = 0
+    wrong = None
+    for row in joins:
+        if not isinstance(row, tuple) or len(row) != 3:
+            return "joins"
+        first, second, both = row
+        if first not in names or second not in names or both not in names or bit[first] >= bit[second]:
+            return "joins"
+        # No two pairs of bits have the same sum.
+        pair = 1 << bit[first] + bit[second]
+        if pairs & pair:
+            return "joins"
+        pairs |= pair
+        if face[both] != face[first] & face[second]:
+            wrong = "exact"
+    return wrong
 
 
 def order_is_free(modes):
@@ -91,30 +118,41 @@ def order_is_free(modes):
     return True
 
 
-def is_exact(modes):
-    """Whether one mode can stand for several ones, in modes of the right form."""
-    names, allowed, joins = modes
-    face = faces_of(names, allowed)
-    for first, second, both in joins:
-        if face[both] != face[first] & face[second]:
-            return False
-    # What several modes tell together does not depend on their order. So neither does their join,
-    # unless several modes tell the same.
-    return len(set(list(face.values()))) == len(names) or order_is_free(modes)
+def are_usual(modes):
+    """Whether a value is modes that many systems have, and that need no look."""
+    return modes == READ_AND_WRITE or modes == (USUAL_NAMES, USUAL_ALLOWED, USUAL_JOINS)
 
 
 def check_modes(modes):
     """None if the value is modes, otherwise the first part of it that is wrong."""
-    if not is_tuple(modes, 3, 3):
+    if are_usual(modes):
+        return None
+    if not isinstance(modes, tuple) or len(modes) != 3:
         return "form"
-    names, allowed, joins = modes
-    if not are_different_names(names, 1, MOST_MODES):
+    names = modes[0]
+    if not isinstance(names, tuple) or not 1 <= len(names) <= MOST_MODES or not are_names(names):
         return "names"
-    if not is_allowed_part(names, allowed):
+    return wrong_part(modes)
+
+
+def wrong_part(modes):
+    """The first part of a tuple that is wrong, where a tuple of one to six names comes first; None if it is modes."""
+    names, allowed, joins = modes
+    bit = {}
+    face = {}
+    for name in names:
+        bit[name] = 1 << len(bit)
+        face[name] = 0
+    if len(bit) < len(names):
+        return "names"
+    if not has_faces(bit, face, allowed):
         return "allowed"
-    if not is_joins_part(names, joins):
-        return "joins"
-    return None if is_exact(modes) else "exact"
+    part = wrong_joins(bit, joins, face)
+    # What several modes tell together does not depend on their order. So neither does their join,
+    # unless several modes tell the same. Of two modes the join is one.
+    if part is not None or len(names) < 3 or len(set(list(face.values()))) == len(names) or order_is_free(modes):
+        return part
+    return "exact"
 
 
 def require_modes(modes):

@@ -7,8 +7,9 @@ from stuckrows.finder import find_ring
 from stuckrows.full import full_rows, one_of_each, told_by
 from stuckrows.further import all_further, disobeyed, go_together, ordered, require_further
 from stuckrows.hitting import Hunt
+from stuckrows.orderings import all_less
 from stuckrows.shown import Reader
-from stuckrows.templates import all_less, check_ring_system, check_system, require_rings
+from stuckrows.templates import check_ring_system, check_system, require_rings
 from stuckrows.words import is_index
 
 MOST_ORDERS = 3

@@ -18,7 +18,7 @@ def run_behind(system, instances, schedule):
         raise InvalidSchedule(-1)
     run = run_of(system, instances)
     for place, index in enumerate(schedule):
-        if not is_integer(index) or index not in run.with_turn():
+        if not run.has_turn(index):
             raise InvalidSchedule(place)
         run.do_turn(index)
     return run

@@ -1,7 +1,8 @@
 """Spots: the positions of a system, each with all that rings ask about it."""
 
 from stuckrows.modes import ModeTable
-from stuckrows.templates import all_less, asked_by, asking_steps, held_before
+from stuckrows.orderings import all_less
+from stuckrows.templates import asked_by, asking_steps, held_before
 
 # How an item that a member holds stands to the one that it asks for: it is the same
 # one; or a row of the same table of which it is told that its key is less or greater;

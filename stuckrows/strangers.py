@@ -5,7 +5,7 @@ from stuckrows.errors import InvalidItem, InvalidMode
 from stuckrows.finder import Finder
 from stuckrows.modes import ModeTable
 from stuckrows.ranks import kinds_of
-from stuckrows.templates import check_system, check_template_at, require_rings
+from stuckrows.templates import check_last_template, check_system, require_rings
 from stuckrows.words import is_tuple
 
 ROW_TIES = ("less", "greater", "unlike", "same")
@@ -24,8 +24,8 @@ def ring_with(system, stranger):
 def stranger_ring(system, stranger):
     """A shortest ring in which the stranger, as a last template, stands exactly once; None if there is none."""
     check_system(system)
+    check_last_template(system, stranger)
     modes, fixed, templates = system
-    check_template_at(modes, fixed, templates + (stranger,), len(templates))
     require_rings((modes, fixed, templates + (stranger,)))
     return ring_with(system, stranger)
 

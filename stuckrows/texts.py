@@ -2,7 +2,7 @@
 
 from stuckrows.errors import InvalidText
 from stuckrows.templates import check_system
-from stuckrows.words import is_name
+from stuckrows.words import LONGEST_NAME, are_letters
 
 # For the first word of each row those with which the next row can begin; "" stands for no row.
 FOLLOWERS = {
@@ -32,17 +32,12 @@ SIZES = {
 LAST = ("lock", "free")
 
 
-def row_of(word, names):
-    """The row that begins with a word and goes on with names."""
-    return " ".join([word] + list(names))
-
-
 def template_rows(template):
     """The rows of a template."""
     name, params, orders, steps = template
-    rows = [row_of("template", [name])]
-    rows.extend([row_of("param", pair) for pair in params])
-    rows.extend([row_of("order", pair) for pair in orders])
+    rows = [f"template {name}"]
+    rows.extend([f"param {param} {table}" for param, table in params])
+    rows.extend([f"order {low} {high}" for low, high in orders])
     rows.extend([" ".join(step) for step in steps])
     return rows
 
@@ -51,33 +46,42 @@ def system_text(system):
     """The text of a system."""
     check_system(system)
     (names, allowed, joins), fixed, templates = system
-    rows = [row_of("modes", names)]
-    rows.extend([row_of("allow", pair) for pair in allowed])
-    rows.extend([row_of("join", triple) for triple in joins])
+    rows = [" ".join(["modes", *names])]
+    rows.extend([f"allow {held} {asked}" for held, asked in allowed])
+    rows.extend([f"join {first} {second} {both}" for first, second, both in joins])
     if fixed:
-        rows.append(row_of("fixed", fixed))
+        rows.append(" ".join(["fixed", *fixed]))
     for template in templates:
         rows.extend(template_rows(template))
     return "\n".join(rows)
 
 
 def can_follow(before, words):
-    """Whether a row of these words can stand behind one that begins with the word before."""
-    if not all(is_name(word) for word in words) or words[0] not in FOLLOWERS[before]:
+    """Whether a row of these words, all of them names, can stand behind one that begins with the word before."""
+    if words[0] not in FOLLOWERS[before]:
         return False
     least, most = SIZES[words[0]]
     return len(words) >= least and (most is None or len(words) <= most)
+
+
+def has_letters_only(text):
+    """Whether there is nothing in a text but small letters, blanks and line feeds."""
+    letters = text.replace(" ", "").replace("\n", "")
+    return letters.isascii() and letters.isalpha() and letters.islower()
 
 
 def words_of(text):
     """The words of all rows of a text; raises InvalidText if its form is wrong."""
     if not isinstance(text, str):
         raise InvalidText(-1)
+    only_letters = has_letters_only(text)
     rows = []
     before = ""
     for place, row in enumerate(text.split("\n")):
         words = row.split(" ")
-        if not can_follow(before, words):
+        # Of letters the words of a short row are names if none is empty.
+        are_good = all(words) if only_letters and len(row) <= LONGEST_NAME else are_letters(words)
+        if not are_good or not can_follow(before, words):
             raise InvalidText(place)
         before = words[0]
         rows.append(words)
@@ -86,26 +90,36 @@ def words_of(text):
     return rows
 
 
-def behind(rows, word):
-    """A tuple with what stands behind this word, for all rows that begin with it."""
-    return tuple([tuple(words[1:]) for words in rows if words[0] == word])
+def parts_of(rows):
+    """The words behind the first ones of all rows, by these: a dict for the head, and a list of one for each template.
+
+    Steps have their first words, too, and stand together.
+    """
+    head = {"modes": [], "allow": [], "join": [], "fixed": []}
+    templates = []
+    part = head
+    for words in rows:
+        word = words[0]
+        if word in LAST:
+            part["steps"].append(tuple(words))
+            continue
+        if word == "template":
+            part = {"template": [], "param": [], "order": [], "steps": []}
+            templates.append(part)
+        part[word].append(tuple(words[1:]))
+    return (head, templates)
 
 
-def read_template(rows):
-    """The template of its rows."""
-    steps = [tuple(words) for words in rows if words[0] in LAST]
-    return (rows[0][1], behind(rows, "param"), behind(rows, "order"), tuple(steps))
+def read_template(part):
+    """The template of its parts."""
+    return (part["template"][0][0], tuple(part["param"]), tuple(part["order"]), tuple(part["steps"]))
 
 
 def read_system(text):
     """The system of a text; raises InvalidText, and the errors of a system."""
-    rows = words_of(text)
-    starts = [place for place, words in enumerate(rows) if words[0] == "template"]
-    ends = starts[1:] + [len(rows)]
-    templates = tuple([read_template(rows[start:end]) for start, end in zip(starts, ends)])
-    head = rows[:starts[0]]
-    fixed = behind(head, "fixed")
-    modes = (tuple(head[0][1:]), behind(head, "allow"), behind(head, "join"))
-    system = (modes, fixed[0] if fixed else (), templates)
+    head, parts = parts_of(words_of(text))
+    modes = (head["modes"][0], tuple(head["allow"]), tuple(head["join"]))
+    fixed = head["fixed"][0] if head["fixed"] else ()
+    system = (modes, fixed, tuple([read_template(part) for part in parts]))
     check_system(system)
     return system

@@ -3,6 +3,7 @@
 from stuckrows.grants import Grants
 from stuckrows.instances import steps_of
 from stuckrows.modes import ModeTable
+from stuckrows.words import is_index
 
 
 class Run:
@@ -22,9 +23,11 @@ class Run:
         """Whether an instance waits."""
         return index in self.grants.asks
 
-    def with_turn(self):
-        """The ascending list of the instances that have a turn."""
-        return [index for index in range(len(self.done)) if not self.waits(index) and not self.has_ended(index)]
+    def has_turn(self, value):
+        """Whether a value is the index of an instance that has a turn."""
+        if not is_index(value, len(self.done)):
+            return False
+        return value not in self.grants.asks and self.done[value] <= len(self.steps[value])
 
     def do_turn(self, index):
         """An instance that has a turn does it; the list of (index, item) of the asks of others that it grants."""

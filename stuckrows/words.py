@@ -10,12 +10,26 @@ def is_name(value):
     return value.isascii() and value.isalpha() and value.islower()
 
 
-def are_names(values):
-    """Whether all of some values are names."""
+def are_strings(values):
+    """Whether all of some values are strings."""
     for value in values:
-        if not is_name(value):
+        if not isinstance(value, str):
             return False
     return True
+
+
+def are_letters(words):
+    """Whether all of some strings are names."""
+    letters = "".join(words)
+    # If none is empty, none of short ones can be too long.
+    if not all(words) or len(letters) >= len(words) + LONGEST_NAME and max(map(len, words)) > LONGEST_NAME:
+        return False
+    return not letters or letters.isascii() and letters.isalpha() and letters.islower()
+
+
+def are_names(values):
+    """Whether all values in a tuple or a list are names."""
+    return are_strings(values) and are_letters(values)
 
 
 def is_integer(value):
@@ -25,7 +39,7 @@ def is_integer(value):
 
 def is_index(value, size):
     """Whether a value is a place in a list of this size."""
-    return is_integer(value) and 0 <= value < size
+    return isinstance(value, int) and not isinstance(value, bool) and 0 <= value < size
 
 
 def is_tuple(value, least, most):
@@ -35,7 +49,9 @@ def is_tuple(value, least, most):
 
 def are_different_names(value, least, most):
     """Whether a value is a tuple of so many names, none of them twice."""
-    return is_tuple(value, least, most) and are_names(value) and len(set(value)) == len(value)
+    if not isinstance(value, tuple) or not least <= len(value) <= most:
+        return False
+    return are_names(value) and (len(value) < 2 or len(set(value)) == len(value))
 
 
 def is_item(value):
