@@ -22,9 +22,9 @@ class AnyRing:
         """Each ring will do."""
         return True
 
-    def covers(self, _, other):
+    def covers(self, counts, other):
         """One walk is as good as another one."""
-        return other == ()
+        return counts == other
 
 
 class Limited:

@@ -54,7 +54,7 @@ def final_modes(table, template):
 
 
 class Ways:
-    """The exits of a system, and which of them can follow which."""
+    """The exits of a system, and which of them can follow which; where params are freed does not matter for them."""
 
     def __init__(self, system):
         self.table = ModeTable(system[0])
@@ -67,6 +67,8 @@ class Ways:
             self.exits.extend([Exit(index, param, table, modes[param]) for param, table in locked])
         # For each exit the set of those that cannot be held by others at the same row.
         self.against = [self.those_against(one) for one in self.exits]
+        # For each exit a dict from those of the same template to how it stands to them.
+        self.ties = [self.ties_of(place, one) for place, one in enumerate(self.exits)]
 
     def those_against(self, one):
         """The set of the exits that do not allow one at its row."""
@@ -83,20 +85,17 @@ class Ways:
                 return place
         return None
 
-    def tie(self, first, other):
-        """How an exit stands to another one of the same template."""
-        if first == other:
-            return "same"
-        less = self.less[self.exits[first].template]
-        pair = (self.exits[first].param, self.exits[other].param)
-        if pair in less:
-            return "less"
-        return "greater" if pair[::-1] in less else "unlike"
-
-    def beside(self, entry):
-        """The list of the exits of the template of one."""
-        template = self.exits[entry].template
-        return [place for place, one in enumerate(self.exits) if one.template == template]
+    def ties_of(self, place, one):
+        """A dict from the exits of the template of one to how this one stands to them."""
+        less = self.less[one.template]
+        ties = {}
+        for at, other in enumerate(self.exits):
+            if at == place:
+                ties[at] = "same"
+            elif other.template == one.template:
+                is_greater = (other.param, one.param) in less
+                ties[at] = "less" if (one.param, other.param) in less else "greater" if is_greater else "unlike"
+        return ties
 
     def going_with(self, held):
         """The set of the exits that others may hold at a row that is held so."""
@@ -106,21 +105,21 @@ class Ways:
                 found |= 1 << place
         return found
 
-    def halts(self):
-        """The list of all halts."""
+    def halts(self, templates):
+        """The list of all halts in templates that differ from those of the system in their free steps only."""
         found = []
-        for index, template in enumerate(self.templates):
+        for index, template in enumerate(templates):
             steps = template[3]
             for place, step in enumerate(steps):
                 if step[0] == "free":
-                    found.extend(self.halts_behind(index, place))
+                    found.extend(self.halts_behind(index, template, place))
         return found
 
-    def halts_behind(self, index, place):
+    def halts_behind(self, index, template, place):
         """The list of the halts behind one free step."""
-        steps = self.templates[index][3]
+        steps = template[3]
         held = held_before(self.table, steps, place + 1)
-        names = [param for param, _ in self.templates[index][1]]
+        names = [param for param, _ in template[1]]
         later = [steps[at][1] for at in asking_steps(self.table, steps) if at > place and steps[at][1] in names]
         freed = self.place_of(index, steps[place][1])
         taken = [name for name in names if name in later]
@@ -145,7 +144,7 @@ def way_back(states, at):
 
 def shortest_way(ways, halt, most):
     """The (entry, exit) of as few others as can go by a halt, the last one first; None if they are more than `most`."""
-    first = ways.tie(halt.freed, halt.later)
+    first = ways.ties[halt.freed][halt.later]
     beside = ways.going_with(halt.held)
     # Where the way is, its exit, the entry and the exit of the last one, the state before, how many there are.
     states = [(HERE, halt.later, None, None, -1, 0)]
@@ -155,8 +154,8 @@ def shortest_way(ways, halt, most):
         kind, last = states[at][:2]
         entries = ways.against[last] & beside if kind == HERE else ways.against[last]
         for entry in bits(entries):
-            for place in ways.beside(entry):
-                here = (kind_behind(kind, ways.tie(entry, place), first), place)
+            for place, tie in ways.ties[entry].items():
+                here = (kind_behind(kind, tie, first), place)
                 if here in seen:
                     continue
                 seen[here] = True
@@ -185,12 +184,11 @@ def disorder_of(ways, halt, way):
     return (instances[::-1], halt.turns)
 
 
-def find_disorder(system):
-    """A disorder of a system with as few instances as possible, where all has been checked; None if there is none."""
-    ways = Ways(system)
+def disorder_in(ways, templates):
+    """A disorder of as few instances as possible of such templates, None if there is none."""
     best = None
     most = 3 * len(ways.exits) + 1
-    for halt in ways.halts():
+    for halt in ways.halts(templates):
         way = shortest_way(ways, halt, most)
         if way is not None:
             best = (halt, way)
@@ -199,3 +197,8 @@ def find_disorder(system):
         return None
     halt, way = best
     return disorder_of(ways, halt, way)
+
+
+def find_disorder(system):
+    """A disorder of a system with as few instances as possible, where all has been checked; None if there is none."""
+    return disorder_in(Ways(system), system[2])

@@ -1,7 +1,7 @@
 """Forms of systems: whether a value is one, and otherwise what is wrong with it first."""
 
 from stuckrows.errors import InvalidSystem, InvalidTemplate
-from stuckrows.modes import MOST_MODES, are_usual, require_modes, wrong_part
+from stuckrows.modes import MOST_MODES, require_modes, wrong_part
 from stuckrows.orderings import can_be_fulfilled
 from stuckrows.words import are_different_names, are_letters, are_strings
 
@@ -99,7 +99,7 @@ def is_system(system):
     # All that must be names is looked at in one go.
     if len(taken) < len(templates) or not are_letters(words):
         return False
-    return are_usual(modes) or wrong_part(modes) is None
+    return wrong_part(modes) is None
 
 
 def wrong_place(system, template, taken):

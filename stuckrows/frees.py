@@ -1,6 +1,6 @@
 """Frees: how early rows may be freed without disorder, and how late without anything that can be stuck."""
 
-from stuckrows.disorders import find_disorder
+from stuckrows.disorders import Ways, disorder_in
 from stuckrows.errors import InvalidNumber, TooLarge
 from stuckrows.finder import find_ring
 from stuckrows.forms import MOST_STEPS
@@ -67,11 +67,12 @@ def earliest(system, order):
         raise InvalidNumber("order")
     require_orderly(system)
     require_few_steps(system, mine)
+    ways = Ways(system)
     places = [slot.high for slot in mine]
     for turn in turns:
         # Where the slot is freed now nothing is disorderly, so the least such place is found.
         places[turn] = mine[turn].low
-        while find_disorder(placed(system, mine, places)) is not None:
+        while disorder_in(ways, placed(system, mine, places)[2]) is not None:
             places[turn] += 1
     return places
 
@@ -87,6 +88,7 @@ class Calm:
     def __init__(self, system, mine):
         self.system = system
         self.slots = mine
+        self.ways = Ways(system)
         # Places at which something can be disorderly, and at which something can be stuck.
         self.disorderly = []
         self.stuck = []
@@ -103,7 +105,7 @@ class Calm:
         if self.is_known(places):
             return False
         system = placed(self.system, self.slots, places)
-        if find_disorder(system) is not None:
+        if disorder_in(self.ways, system[2]) is not None:
             self.disorderly.append(places)
             return False
         if find_ring(system) is not None:

@@ -19,8 +19,6 @@ USUAL_JOINS = (
     ("u", "six", "six"), ("u", "x", "x"),
     ("six", "x", "x"),
 )
-# Shared and exclusive locks, the only modes of many systems.
-READ_AND_WRITE = (("s", "x"), (("s", "s"),), (("s", "x", "x"),))
 
 
 class ModeTable:
@@ -118,15 +116,22 @@ def order_is_free(modes):
     return True
 
 
-def are_usual(modes):
-    """Whether a value is modes that many systems have, and that need no look."""
-    return modes == READ_AND_WRITE or modes == (USUAL_NAMES, USUAL_ALLOWED, USUAL_JOINS)
+def are_standard(modes):
+    """Whether a value is the usual modes of tables and rows, which need no look."""
+    return modes == (USUAL_NAMES, USUAL_ALLOWED, USUAL_JOINS)
+
+
+def read_and_write(modes):
+    """Whether a tuple of three, with different names first, is modes of which one reads and the other one writes."""
+    names, allowed, joins = modes
+    if len(names) != 2:
+        return False
+    weak, strong = names
+    return allowed == ((weak, weak),) and joins == ((weak, strong, strong),)
 
 
 def check_modes(modes):
     """None if the value is modes, otherwise the first part of it that is wrong."""
-    if are_usual(modes):
-        return None
     if not isinstance(modes, tuple) or len(modes) != 3:
         return "form"
     names = modes[0]
@@ -138,13 +143,12 @@ def check_modes(modes):
 def wrong_part(modes):
     """The first part of a tuple that is wrong, where a tuple of one to six names comes first; None if it is modes."""
     names, allowed, joins = modes
-    bit = {}
-    face = {}
-    for name in names:
-        bit[name] = 1 << len(bit)
-        face[name] = 0
-    if len(bit) < len(names):
+    if len(set(names)) < len(names):
         return "names"
+    if read_and_write(modes) or are_standard(modes):
+        return None
+    bit = {name: 1 << place for place, name in enumerate(names)}
+    face = {name: 0 for name in names}
     if not has_faces(bit, face, allowed):
         return "allowed"
     part = wrong_joins(bit, joins, face)

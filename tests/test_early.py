@@ -246,6 +246,10 @@ class Disorders(Case):
         for turns, expected in ((0, False), (1, False), (2, True), (3, False), (4, False), (5, False), (10 ** 100, False)):
             self.assertIs(shows_disorder(EXAMPLE, (TWO_ROWS, turns)), expected)
         self.assertIs(shows_disorder(EXAMPLE, (tuple(TWO_ROWS), 2)), True)
+        # The first one may be halted behind more turns than the others have.
+        late = (ONLY_X, (), (template("a", "p q", "", "px px px px -p qx"), template("b", "p q", "", "px qx")))
+        for turns in range(1, 9):
+            self.assertIs(shows_disorder(late, ([(0, (1, 2)), (1, (1, 2))], turns)), turns == 5)
         # They need not be different, nor few.
         read = template("read", "p q", "", "px qs")
         system = system_of(template("a", "p q", "", "ps -p qx"), read)

@@ -94,6 +94,10 @@ class Examples(Case):
         # 24 * 2 * 2 * 2 are 192 lists, 24 * 2 ** 4 are 384.
         self.assertEqual(calm_places((ONLY_X, (), (four,) + twice)), [4, 4, 4, 4] + [2] * 6)
         self.raises(TooLarge, {"limit": 300}, calm_places, (ONLY_X, (), (four,) + twice + (two,)))
+        # 5 * 5 * 6 * 2 are just 300.
+        just = [template("five" + name, "p q", "", "px qx qx qx qx") for name in "ab"]
+        just += [template("six", "p q r", "", "px qx rx"), template("two", "p q", "", "px qx")]
+        self.assertIsNone(calm_places((ONLY_X, (), tuple(just))))
         self.raises(TooLarge, {"limit": 300}, calm_places, (TWO, (), (READ_WRITE, four) + twice + (two,)))
 
     def test_calm_places(self):

@@ -86,6 +86,8 @@ class Facts(Case):
         self.assertEqual(least_counts((standard(), (), (plain,))), [(2,)])
 
     def test_the_order_of_safe_limits(self):
+        both = system_of(READ_WRITE, ("other",) + READ_WRITE[1:], ("third",) + READ_WRITE[1:])
+        self.assertEqual(safe_limits(both), [(0, 0, 1), (0, 1, 0), (1, 0, 0)])
         system = system_of(READ_WRITE, UP, DOWN)
         for one, other in zip(safe_limits(system), safe_limits(system)[1:]):
             self.assertLess([(limit is None, limit or 0) for limit in one], [(limit is None, limit or 0) for limit in other])
@@ -138,6 +140,7 @@ class Drawn(Case):
         size = len(system[2])
         safe = safe_limits(system)
         self.assertEqual(len(set(safe)), len(safe))
+        self.assertEqual(safe, sorted(safe, key=lambda limits: [(limit is None, limit or 0) for limit in limits]))
         for index in range(size):
             self.assertEqual(fewest_of(system, index), min([counts[index] for counts in least], default=None))
         for _ in range(6):

@@ -199,6 +199,10 @@ class Examples(Case):
         # 24 * 12 full orders are not more than 300, 24 * 24 are.
         some = [("a", FOUR, (), ALL_FOUR), ("b", FOUR, (("s", "p"),), ALL_FOUR[:1])]
         self.assertEqual(full_orders((ONLY_X, (), tuple(some))), [(("p", "q", "r", "s"),), (("q", "r", "s", "p"),)])
+        # 12 * 5 * 5 are just 300.
+        five = [("five" + name, FOUR, (("p", "r"), ("q", "r"), ("q", "s")), ALL_FOUR[:1]) for name in "ab"]
+        self.assertEqual(full_orders((ONLY_X, (), tuple(some[1:] + five))), [
+            (("q", "r", "s", "p"),)] + [(("p", "q", "r", "s"),)] * 2)
         some[1] = changed(some[1], 2, ())
         self.raises(TooLarge, {"limit": 300}, full_orders, (ONLY_X, (), tuple(some)))
         self.raises(TooLarge, {"limit": 300}, full_orders, (ONLY_X, (), (some[0], changed(some[0], 0, "c"), UP)))

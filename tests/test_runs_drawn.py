@@ -5,9 +5,12 @@ import unittest
 from itertools import product
 
 from lockplay import PlainRun
+from samples import TWO
 from stuckrows.errors import TooLarge
 from stuckrows.modes import check_modes, standard
+from stuckrows.plans import Plan
 from stuckrows.runs import least_ahead, least_schedule, outcomes, play, way_to
+from stuckrows.states import States
 from test_early import any_early_steps
 
 
@@ -119,6 +122,7 @@ class Drawn(unittest.TestCase):
             some = chance.choice(modes)
             system, instances = self.draw(chance, some)
             plain = Followed(system, instances)
+            self.assertEqual(len(States(Plan(system, instances)).states), len(plain.rows()))
             stuck = plain.least_stuck(1)
             whole = plain.least_stuck(len(instances))
             self.assertEqual(least_schedule(system, instances), stuck)
@@ -136,6 +140,30 @@ class Drawn(unittest.TestCase):
             seen["granted"] += plain.granted > 0
             seen["uneven"] += any((n, m) not in some[1] for m, n in some[1])
         self.assertGreater(min(seen.values()), 15, seen)
+
+    def test_rows_of_three_that_wait(self):
+        # Four instances at one item: three of them wait in a row, as conversions or in the queue, in each order.
+        chance = random.Random(42)
+        waits = 0
+        for _ in range(60):
+            modes = chance.choice([standard(), TWO] + uneven_modes(chance, 2, "abc"))
+            templates = []
+            for name in ("one", "two", "three"):
+                steps = any_early_steps(chance, ["f"], modes, chance.choice([1, 1, 2, 2, 3]), 0.2)
+                templates.append((name, (), (), steps))
+            system = (modes, ("f",), tuple(templates))
+            instances = [(chance.randrange(3), ()) for _ in range(4)]
+            plain = Followed(system, instances)
+            self.assertEqual(len(States(Plan(system, instances)).states), len(plain.rows()))
+            for all_of in (False, True):
+                stuck = plain.least_stuck(4 if all_of else 1)
+                self.assertEqual(least_schedule(system, instances, all_of=all_of), stuck)
+            self.assertEqual(outcomes(system, instances), plain.outcomes())
+            sizes = [len(system[2][index][3]) + 1 for index, _ in instances]
+            way, ahead = plain.ways(sizes)
+            self.assertEqual([way_to(system, instances, sizes), least_ahead(system, instances, sizes)], [way, ahead])
+            waits += any(len(part) > 2 for run, _, _ in plain.rows() for part in run.table.at("f"))
+        self.assertGreater(waits, 25)
 
     def test_more_than_two_thousand_states(self):
         # Instances that never meet have as many states as there are numbers of turns done.
