@@ -43,6 +43,10 @@ class Hunt:
                 found &= mask
         return found
 
+    def is_hopeless(self):
+        """Whether a ring is known that obeys each of the orders."""
+        return 0 in self.masks
+
     def last_enough(self, places, first):
         """The least place, from the first one on, with which some places are enough; None if there is none."""
         left = self.wanted(places) >> first << first
@@ -56,6 +60,8 @@ class Hunt:
     def least_enough(self, places, size):
         """The least list of so many places, some first ones given, that is enough; None if there is none."""
         first = places[-1] + 1 if places else 0
+        if self.is_hopeless():
+            return None
         if size == len(places):
             return places if self.is_enough(places) else None
         if size == len(places) + 1:

@@ -249,6 +249,30 @@ class Systems(unittest.TestCase):
                 due = fault((modes, (), (("a", (), (), (("lock", "f", "x"),)),)))
                 self.assertEqual(check_modes(modes), due[1]["part"] if due[0] is InvalidModes else None)
 
+    def test_one_more_than_there_may_be(self):
+        words = ["abcdefg"[:count] for count in range(8)]
+        for count, names in enumerate(words):
+            # A chain of modes that allow nothing.
+            joins = tuple((m, n, n) for at, n in enumerate(names) for m in names[:at])
+            modes = (tuple(names), (), joins)
+            lock = (("lock", "f", names[-1] if names else "a"),)
+            system = (modes, ("f",), (("t", (), (), lock),))
+            self.assertEqual(fault(system), None if 0 < count < 7 else (InvalidModes, {"part": "names"}))
+            self.compare(random.Random(0), system)
+            fixed = (TWO, tuple(names), (("t", (("p", "t"),), (), (("lock", "p", "x"),)),))
+            self.assertEqual(fault(fixed), None if count < 5 else (InvalidSystem, {"part": "fixed"}))
+            self.compare(random.Random(0), fixed)
+            many = (TWO, ("f",), tuple((name, (), (), (("lock", "f", "s"),)) for name in names))
+            self.assertEqual(fault(many), None if 0 < count < 7 else (InvalidSystem, {"part": "templates"}))
+            self.compare(random.Random(0), many)
+            params = (TWO, ("f",), (("t", tuple((name, "t") for name in names if name != "f"), (), (("lock", "f", "s"),)),))
+            self.assertEqual(fault(params), None if count < 5 else (InvalidTemplate, {"template": 0, "step": -1}))
+            self.compare(random.Random(0), params)
+        for count in range(10):
+            steps = (TWO, ("f",), (UP, ("t", (), (), (("lock", "f", "s"),) * count)))
+            self.assertEqual(fault(steps), None if 0 < count < 9 else (InvalidTemplate, {"template": 1, "step": -1}))
+            self.compare(random.Random(0), steps)
+
     def test_modes_that_many_systems_have(self):
         chance = random.Random(174)
         for modes in [TWO, standard(), ONLY_X] + ALL_MODES[:20]:
