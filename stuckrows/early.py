@@ -19,7 +19,7 @@ def pairs_behind(system, instances, schedule):
         if not tape.run.has_turn(index):
             raise InvalidSchedule(place)
         tape.do_turn(index)
-    indexes = range(len(instances))
+    indexes = list(range(len(instances)))
     return [(first, other) for first in indexes for other in indexes if tape.is_ahead(first, other)]
 
 

@@ -25,7 +25,7 @@ class Finder:
 
     def follow_all(self, bound):
         """Follows all walks, where no walk ends the search."""
-        trips = trips_of(self.links, self.starts, self.links.nodes_of(range(len(self.system[2]))))
+        trips = trips_of(self.links, self.starts, self.links.nodes_of(list(range(len(self.system[2])))))
         shortest_walk(self.links, trips, bound)
 
     def least_counts(self):
@@ -43,4 +43,4 @@ class Finder:
 
 def find_ring(system):
     """A shortest ring of a system that has been checked, None if there is none."""
-    return Finder(system).ring_among(range(len(system[2])), AnyRing())
+    return Finder(system).ring_among(list(range(len(system[2]))), AnyRing())

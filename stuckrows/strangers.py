@@ -18,7 +18,7 @@ def ring_with(system, stranger):
     """A shortest ring with one stranger, where all has been checked; None if there is none."""
     modes, fixed, templates = system
     finder = Finder((modes, fixed, templates + (stranger,)))
-    return finder.ring_among(range(len(templates) + 1), JustOne(len(templates)))
+    return finder.ring_among(list(range(len(templates) + 1)), JustOne(len(templates)))
 
 
 def stranger_ring(system, stranger):
