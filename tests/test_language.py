@@ -19,6 +19,31 @@ METHODS = set(
     "items join keys ljust lower lstrip partition pop remove replace reverse rfind rjust rpartition rsplit rstrip "
     "setdefault split splitlines startswith strip update upper values zfill bit_length add discard sort isascii".split()
 )
+# What is walked on the spot, and who walks it there. L23 would let a plain local variable keep one of these
+# in some cases; a list in its place is as short, and no case has to be told from another.
+LAZY = {"range", "zip", "enumerate", "reversed"}
+VIEWS = {"items", "keys", "values"}
+WALKERS = {"list", "tuple", "dict", "sorted", "sum", "any", "all", "enumerate", "zip"}
+CHOOSERS = {"product", "combinations", "permutations"}
+AT_ONCE = (
+    "for k in range(3): pass", "[k for k, row in enumerate(rows) if row]", "{k: v for k, v in d.items()}",
+    "list(range(3))", "take(list(range(3)))", "kept = tuple(zip(a, b))", "return sorted(d.values(), reverse=True)",
+    "list(enumerate(zip(a, b)))", "any(d[k] for k in d.keys())", "max(d.values(), default=0)", "','.join(d.keys())",
+    "k in range(3)", "k not in d.keys()", "len(d.items())", "for k in reversed(range(3)): pass",
+    "from itertools import combinations, product\nlist(combinations(range(3), 2) or product(a, d.items()))",
+)
+NOT_AT_ONCE = (
+    "take(range(3))", "take(a, zip(a, b))", "take(some=enumerate(a))", "take(*reversed(a))", "take(b=[d.values()])",
+    "box.take(range(3), a)", "box.take(a)[0].take(d.items())", "Box(d.keys())", "rows.append(range(3))",
+    "take(enumerate(range(3)))", "take(range(3) if a else b)", "take(a or d.values())", "combinations(range(3), 2)",
+    "kept = range(3)", "a, b = zip(a, b)", "self.rows = d.items()", "rows[k] = enumerate(a)", "kept = [reversed(a)]",
+    "kept = (1, d.keys())", "kept = {1: d.values()}", "if (kept := range(3)): pass", "def take(rows=range(3)): pass",
+    "def take(): return range(3)", "def take(): return zip(a, b)", "def take(): return 1, d.items()",
+    "lambda: enumerate(a)", "def take(): yield reversed(a)", "[d.values() for d in rows]", "list(d.keys() for d in a)",
+    "sorted(rows, key=zip(a, b))", "min(range(3), a)", "max(d.items(), key=take)", "len(zip(a, b))", "range(3) == kept",
+    "k in d.values()", "list(reversed(d.items()))", "glue.join(d.keys())", "dict(a=d.items())", "set(d.values())",
+    "for k in a: zip(a, b)",
+)
 FORBIDDEN = (
     ast.Global, ast.AsyncFunctionDef, ast.Await, ast.Import, ast.AnnAssign, ast.Yield, ast.YieldFrom, ast.TryStar,
 )
@@ -68,6 +93,16 @@ class Language(unittest.TestCase):
                 if isinstance(node, ast.Call) and isinstance(node.func, ast.Attribute):
                     self.assertIn(node.func.attr, METHODS | own, name)
 
+    def test_ranges_zips_and_views_are_walked_where_they_are_made(self):
+        for name, tree in trees():
+            self.assertEqual(rows_not_at_once(tree), [], name)
+
+    def test_rows_that_walk_at_once_are_told_from_others(self):
+        for text in AT_ONCE:
+            self.assertEqual(rows_not_at_once(ast.parse(text)), [], text)
+        for text in NOT_AT_ONCE:
+            self.assertEqual(rows_not_at_once(ast.parse(text)), [1], text)
+
     def test_names_and_words(self):
         for name, tree in trees():
             for node in ast.walk(tree):
@@ -100,6 +135,52 @@ class Language(unittest.TestCase):
             ready = {name for name, needs in wanted.items() if name not in done and done.issuperset(needs)}
             self.assertTrue(ready, sorted(set(wanted) - done))
             done |= ready
+
+
+def lazy_name(node):
+    """What makes a range, a zip, an enumerate, a reversed or a view of a dict here; None for another node."""
+    if isinstance(node, ast.Call) and isinstance(node.func, ast.Name) and node.func.id in LAZY:
+        return node.func.id
+    if isinstance(node, ast.Call) and isinstance(node.func, ast.Attribute) and node.func.attr in VIEWS:
+        return node.func.attr
+    return None
+
+
+def walks(caller, node, library):
+    """Whether a call walks one of its arguments at once; library: the names that its file has from itertools."""
+    name = lazy_name(node)
+    if isinstance(caller.func, ast.Attribute):
+        return caller.func.attr == "join" and isinstance(caller.func.value, ast.Constant)
+    if not isinstance(caller.func, ast.Name) or node not in caller.args:
+        return False
+    if caller.func.id in CHOOSERS & library:
+        return name in {"range", "zip", "items"} and (caller.func.id == "product" or node is caller.args[0])
+    if caller.func.id in {"min", "max"}:
+        return len(caller.args) == 1 and all(word.arg == "default" for word in caller.keywords)
+    allowed = {"len": {"range", "items"}, "reversed": {"range"}}.get(caller.func.id, LAZY | VIEWS)
+    return caller.func.id in WALKERS | {"len", "reversed"} and node is caller.args[0] and name in allowed
+
+
+def is_at_once(parent, node, library):
+    """Whether what is made at a node is walked by the node around it."""
+    if isinstance(parent, (ast.For, ast.comprehension)):
+        return node is parent.iter
+    if isinstance(parent, ast.Compare):
+        tested = node is not parent.left and all(isinstance(sign, (ast.In, ast.NotIn)) for sign in parent.ops)
+        return tested and lazy_name(node) in {"range", "keys"}
+    return isinstance(parent, ast.Call) and walks(parent, node, library)
+
+
+def rows_not_at_once(tree):
+    """The rows of a file in which a range, zip, enumerate, reversed or view is passed on, kept or returned."""
+    found = [node for node in ast.walk(tree) if isinstance(node, ast.ImportFrom) and node.module == "itertools"]
+    library = {one.name for node in found for one in node.names}
+    rows = []
+    for parent in ast.walk(tree):
+        for node in ast.iter_child_nodes(parent):
+            if lazy_name(node) is not None and not is_at_once(parent, node, library):
+                rows.append(node.lineno)
+    return sorted(rows)
 
 
 def own_methods():
